@@ -1,0 +1,211 @@
+"""Families made of families. Where a number of most orbits is passed, and not None, more of them are too many."""
+
+from gapwise.codes import Passage, codes_of, crossings, gap_counts, passage
+from gapwise.errors import TooMany
+from gapwise.families import Family, least, opened, refined, refined_count
+from gapwise.placing import led, placed
+from gapwise.points import merged_points
+from gapwise.values import support, value_text
+
+MOST = 600
+
+
+def check_many(many, most):
+    if most is not None and many > most:
+        raise TooMany()
+
+
+def is_part(one, other):
+    """Whether each member of one is a member of other."""
+    way = passage(one.points, other.points)
+    known = other.table()
+    return all([(key[0], codes) in known for key in one.table() for codes in way.finer(key[1])])
+
+
+def is_same(one, other):
+    """Whether two families in their least forms have the same members."""
+    if one.points != other.points or one.told() != other.told():
+        return False
+    known = other.table()
+    return all([key in known for key in one.table()])
+
+
+def joined(one, other, most=MOST):
+    """The family of all members of one or other."""
+    points = merged_points(one.points, other.points)
+    check_many(refined_count(one, points), most)
+    check_many(refined_count(other, points), most)
+    left, right = refined(one, points), refined(other, points)
+    table = {key: part[key] for part in (left, right) for key in part}
+    check_many(len(table), most)
+    return least(points, table)
+
+
+def united(one, other):
+    """The family of all members of one or other, however many."""
+    if is_part(other, one):
+        return one
+    return other if is_part(one, other) else joined(one, other, None)
+
+
+def shared(one, other, most=MOST):
+    """The family of the members of both."""
+    points = merged_points(one.points, other.points)
+    if refined_count(one, points) > refined_count(other, points):
+        return least(points, parted(other, one, True, most))
+    return least(points, parted(one, other, True, most))
+
+
+def rest(one, other, most=MOST):
+    """The family of the members of one that are no members of other."""
+    return least(merged_points(one.points, other.points), parted(one, other, False, most))
+
+
+def parted(one, other, inside, most):
+    """The table, over the points of both, of the members of one that lie inside of other, or of those that don't.
+
+    An orbit of one of which other has all, or nothing, is not looked at piece by piece.
+    """
+    points = merged_points(one.points, other.points)
+    fine, back = passage(one.points, points), passage(points, other.points)
+    across = passage(one.points, other.points)
+    table, known, found = one.table(), other.table(), {}
+    for key in table:
+        text, codes = key
+        hits = [(text, met) in known for met in across.finer(codes)]
+        if inside not in hits:
+            continue
+        pure = (not inside) not in hits
+        if pure:
+            check_many(len(found) + fine.ways(codes), most)
+        for finer in fine.finer(codes):
+            if pure or ((text, back.coarse(finer)) in known) == inside:
+                found[(text, finer)] = table[key]
+        check_many(len(found), most)
+    return found
+
+
+def with_member(family, value, most):
+    """The family with one more member, None if it has it already. Most is the greatest number of orbits told.
+
+    A value that is no member and has further points needs all points of both: led along the line with one of its
+    further points, it is still no member, so no point can be left out for its sake.
+    """
+    skeleton, places = placed(value, ()), support(value)
+    key = (value_text(skeleton), codes_of(places, family.points))
+    if key in family.table():
+        return None
+    points = merged_points(family.points, places)
+    if points == family.points:
+        return least(points, with_key(family.table(), key, skeleton))
+    check_many(refined_count(family, points) + 1, most)
+    return Family(points, with_key(refined(family, points), (key[0], codes_of(places, points)), skeleton))
+
+
+def with_key(table, key, skeleton):
+    """A new table that has one key more."""
+    grown = {known: table[known] for known in table}
+    grown[key] = skeleton
+    return grown
+
+
+def flattened(family, most=MOST):
+    """The family of all members of the members, which all are sets."""
+    table, found = family.table(), {}
+    for key in table:
+        inner = opened(table[key])
+        way = Passage(key[1], 2 * len(family.points))
+        skeletons = inner.table()
+        for text, codes in skeletons:
+            check_many(way.ways(codes), most)
+            for finer in way.finer(codes):
+                found[(text, finer)] = skeletons[(text, codes)]
+            check_many(len(found), most)
+    return least(family.points, found)
+
+
+def count_shapes(points, table):
+    """How many orbits of a table over points have so many points in the gaps."""
+    counts = {}
+    for _, codes in table:
+        counted = gap_counts(codes, len(points))
+        counts[counted] = counts.get(counted, 0) + 1
+    return counts
+
+
+def paired_count(one, other):
+    """How many orbits the rows of a member of one and a member of other have over the points of both."""
+    points = merged_points(one.points, other.points)
+    lefts = count_shapes(points, refined(one, points))
+    rights = count_shapes(points, refined(other, points))
+    total = 0
+    for left in lefts:
+        for right in rights:
+            total += lefts[left] * rights[right] * ways_to_pair(left, right)
+    return total
+
+
+def ways_to_pair(left, right):
+    """In how many ways points that lie so in the gaps can lie beside one another."""
+    total = 1
+    for k, l in zip(left, right):
+        if k and l:
+            total = total * crossings(k, l)
+    return total
+
+
+def paired(one, other, most=MOST):
+    """The family of all rows of a member of one and a member of other."""
+    if not one.told() or not other.told():
+        return Family((), {})
+    points = merged_points(one.points, other.points)
+    check_many(refined_count(one, points), most)
+    check_many(refined_count(other, points), most)
+    check_many(paired_count(one, other), most)
+    lefts, rights, found = refined(one, points), refined(other, points), {}
+    for left in lefts:
+        for right in rights:
+            for codes, ones, others in laid_together(left[1], right[1]):
+                row = ("row", ranked(lefts[left], ones), ranked(rights[right], others))
+                found[(value_text(row), codes)] = row
+    return least(points, found)
+
+
+def ranked(skeleton, ranks):
+    """The skeleton with the points 0, 1, .. led to those of the ranks."""
+    return led(skeleton, {(at, 1): (ranks[at], 1) for at in range(len(ranks))})
+
+
+def laid_together(ones, others):
+    """All ways to lay points of the codes ones and of the codes others together.
+
+    Each is told by the codes of all points, and by the ranks among these that the ones and the others have.
+    """
+    ways = [((), (), ())]
+    finished = []
+    while ways:
+        grown = []
+        for way in ways:
+            nexts = next_ways(ones, others, way)
+            if nexts:
+                grown.extend(nexts)
+            else:
+                finished.append(way)
+        ways = grown
+    return finished
+
+
+def next_ways(ones, others, way):
+    """The ways with one more point; none if all points are laid."""
+    codes, left, right = way
+    rank = len(codes)
+    one = ones[len(left)] if len(left) < len(ones) else None
+    other = others[len(right)] if len(right) < len(others) else None
+    found = []
+    if one is not None and (other is None or one < other or one == other and one % 2 == 0):
+        found.append(((*codes, one), (*left, rank), right))
+    if other is not None and (one is None or other < one or one == other and one % 2 == 0):
+        found.append(((*codes, other), left, (*right, rank)))
+    if one is not None and one == other:
+        found.append(((*codes, one), (*left, rank), (*right, rank)))
+    return found
