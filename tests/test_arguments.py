@@ -1,0 +1,110 @@
+"""What holds for every function: arguments stay as they are, and what is told is new and the caller's."""
+
+import unittest
+
+from gapwise import algebra, likeness, making, placing, points, products, reading, running, trees, values
+from gapwise.errors import LineError, NotThere
+from gapwise.making import LINE, made
+from tests.helping import copy_of, is_same_thing
+
+ZERO, ONE, TWO, THREE = (0, 1), (1, 1), (2, 1), (3, 1)
+ABOVE = ("set", (ZERO,), (ONE,))
+RISING = ("set", (), (("row", ZERO, ONE),))
+SETS = made((ZERO,), [ABOVE, LINE])
+MOVE = ((ZERO, ONE), (ONE, THREE))
+BLOCK = (("let", "r", ("set", ("point",), ())), ("for", "x", ("name", "s"), (("add", ("name", "x"), "r"),)))
+PROGRAM = trees.Program((("s", ("set", ("point",))),), (), BLOCK)
+
+CALLS = [
+    (points.make_point, [4, -6]), (points.make_point, [4, 0]), (points.is_before, [ZERO, ONE]), (points.gap_of, [(ZERO, TWO), ONE]),
+    (points.spread, [(ZERO, TWO), 1, 3]), (points.spread, [(), 0, 2]),
+    (values.support, [("row", ONE, ZERO)]), (values.depth, [SETS]), (values.value_text, [SETS]),
+    (placing.moved, [SETS, MOVE]), (placing.moved, [("row", TWO), MOVE]), (placing.placed, [("row", THREE, TWO), (ZERO,)]),
+    (placing.are_alike, [(ZERO,), ONE, TWO]), (placing.shape, [("row", THREE, TWO), (ZERO,)]),
+    (making.made, [(ZERO, ONE), [TWO, ONE, ("row", ZERO, "a")]]), (making.made, [(), []]), (making.orbits, [SETS, (ONE,)]), (making.orbits, [LINE, ()]),
+    (making.is_in, [ABOVE, SETS]), (making.needed, [ABOVE, ZERO]), (making.needed, [ABOVE, [0, 1]]), (making.needed, [ABOVE, {"a": [1]}]),
+    (reading.check_value, [["row", "a"]]), (reading.check_value, [("row", [0, 1])]), (reading.check_value, [{"a": []}]), (reading.check_value, [SETS]),
+    (reading.read_value, ["<a {0|1}>"]), (reading.read_value, [["a"]]), (reading.read_value, ["<a"]),
+    (algebra.joined_points, [ABOVE, SETS]), (algebra.join, [ABOVE, RISING]), (algebra.both, [ABOVE, LINE]), (algebra.less, [LINE, ABOVE]),
+    (algebra.is_within, [ABOVE, LINE]), (algebra.outside, [LINE, ABOVE]), (algebra.orbit_sets, [LINE, (ZERO,)]), (algebra.all_of, [SETS]),
+    (products.merges, [3, 4]), (products.many_pairs, [ABOVE, LINE]), (products.pairs, [ABOVE, LINE]), (products.firsts, [RISING]), (products.seconds, [RISING]),
+    (likeness.alike_moves, [("row", ONE, ZERO), ("row", THREE, TWO)]),
+    (trees.is_kind, [["row", ("point",)]]), (trees.is_kind, [("row", ["point"])]), (trees.is_of, [ABOVE, ("set", ("point",))]),
+    (trees.Program, [[], (), ()]), (trees.Program, [(), (), (["let", "a", ("line",)],)]), (trees.Program, [(("p", ["point"]),), (), ()]), (trees.Program, [(), (), BLOCK[:1]]),
+    (trees.Program, [(("s", ("set", ("point",))),), (), BLOCK]),
+    (running.run, [PROGRAM, [ABOVE]]), (running.run, [PROGRAM, (ABOVE,)]), (running.run_count, [PROGRAM, [ABOVE]]), (running.is_told, [PROGRAM, [ABOVE], "r", ONE]),
+    (running.is_told, [PROGRAM, [ABOVE], ["r"], ONE]), (running.is_told, [PROGRAM, [ABOVE], "r", [1, 1]])]
+
+
+def lists_in(thing):
+    """All lists and dicts in a thing, in attributes of errors too."""
+    if isinstance(thing, dict):
+        return [thing, *sum([lists_in(part) for part in thing.values()], [])]
+    if isinstance(thing, (list, tuple)):
+        return [thing] * isinstance(thing, list) + sum([lists_in(part) for part in thing], [])
+    if isinstance(thing, Exception):
+        return sum([lists_in(part) for part in vars(thing).values()], []) + lists_in(thing.args)
+    if isinstance(thing, trees.Program):
+        return lists_in(list(vars(thing).values()))[1:]
+    return []
+
+
+def told_by(function, parts):
+    try:
+        return function(*parts)
+    except (LineError, NotThere) as error:
+        return error
+
+
+class Arguments(unittest.TestCase):
+    def test_nothing_that_is_handed_in_is_changed(self):
+        for function, parts in CALLS:
+            kept = copy_of(parts)
+            told_by(function, parts)
+            self.assertTrue(is_same_thing(parts, kept), function)
+
+    def test_nothing_that_is_handed_in_is_kept_or_told(self):
+        for function, parts in CALLS:
+            told = told_by(function, parts)
+            handed_in = lists_in(parts)
+            for one in lists_in(told):
+                self.assertFalse(any(one is other for other in handed_in), function)
+
+    def test_told_lists_are_new_each_time(self):
+        for function, parts in CALLS:
+            first, second = told_by(function, parts), told_by(function, parts)
+            if isinstance(first, trees.Program):
+                continue
+            for one in lists_in(first):
+                self.assertFalse(any(one is other for other in lists_in(second)), function)
+            if isinstance(first, Exception):
+                self.assertEqual(vars(first), vars(second))
+                continue
+            kept = copy_of(first)
+            for one in lists_in(first):
+                one.clear()
+            self.assertTrue(is_same_thing(told_by(function, parts), kept), function)
+            self.assertTrue(is_same_thing(second, kept), function)
+
+    def test_what_is_told_is_of_the_kind_that_is_told(self):
+        kinds = {points.spread: list, making.orbits: list, algebra.orbit_sets: list, running.run: dict, making.made: tuple, placing.shape: tuple, values.support: tuple,
+                 likeness.alike_moves: tuple, algebra.joined_points: tuple, running.run_count: int, products.many_pairs: int, running.is_told: bool, making.is_in: bool,
+                 trees.is_kind: bool, trees.is_of: bool, algebra.is_within: bool, placing.are_alike: bool, points.is_before: bool, values.value_text: str}
+        for function, parts in CALLS:
+            told = told_by(function, parts)
+            if function in kinds and not isinstance(told, Exception):
+                self.assertIs(type(told), kinds[function], function)
+
+    def test_the_interface_is_defined_where_it_is_listed(self):
+        listed = {
+            points: "make_point is_before gap_of spread", values: "support depth value_text", placing: "moved placed are_alike shape",
+            making: "made orbits is_in needed", reading: "check_value read_value",
+            algebra: "joined_points join both less is_within outside orbit_sets all_of", products: "merges many_pairs pairs firsts seconds",
+            likeness: "alike_moves", trees: "is_kind is_of Program", running: "run run_count is_told"}
+        for module, names in listed.items():
+            for name in names.split():
+                self.assertEqual(getattr(module, name).__module__, module.__name__, name)
+
+
+if __name__ == "__main__":
+    unittest.main()
