@@ -104,8 +104,6 @@ class Reader:
         return self.read_point()
 
     def read_word(self):
-        if not self.sees("a", "z"):
-            raise BadText(self.place)
         start = self.place
         while self.sees("a", "z") and self.place < start + LETTERS:
             self.place += 1

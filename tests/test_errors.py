@@ -62,10 +62,8 @@ class Errors(unittest.TestCase):
     def test_errors_bear_copies(self):
         for name, words in ALL.items():
             for word in words:
-                told = {one: () for one in words}
                 thing = (True, [1, [2, (3, [4])], {"a": [5], "b": {"c": []}}], {"d": [6]}, 0)
-                told[word] = thing
-                error = getattr(errors, name)(**told)
+                error = getattr(errors, name)(*[thing if one == word else () for one in words])
                 kept = getattr(error, word)
                 self.assertTrue(is_same_thing(kept, thing), name)
                 there = lists_in(kept) + lists_in(error.args)

@@ -221,6 +221,18 @@ class Needed(unittest.TestCase):
         self.check(("set", (ZERO,), ((-1, 1), ONE)), ZERO)
         self.check(made((ZERO,), [ABOVE]), ZERO)
         self.check(made((ZERO,), [("row", ZERO, ONE, ONE)]), ZERO)
+        points = (ZERO, ONE, TWO)
+        self.check(made(points, [value for value in orbits(LINE, points) if value not in points]), ONE)
+        rows = orbits(made((), [("row", ZERO, ONE, TWO)]), points)
+        for place in (1, 2, 3):
+            for point in points:
+                without = made(points, [row for row in rows if row[place] != point])
+                self.assertEqual(without[1], (point,))
+                self.check(without, point)
+                self.check(made(points, [row for row in rows if row[place] not in points]), point)
+        for row in rows:
+            for point in [one for one in points if one in row]:
+                self.check(made(points, [other for other in rows if other != row]), point)
         chance = seeded(15)
         for _ in range(150):
             many = some_set(chance, 2)

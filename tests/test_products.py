@@ -113,7 +113,7 @@ class Pairs(unittest.TestCase):
         self.assertIsInstance(caught.exception, LineError)
         with self.assertRaises(TooMany):
             pairs(word_set(1), word_set(601))
-        self.assertEqual(pairs(word_set(601), EMPTY), EMPTY)
+        self.assertEqual([pairs(word_set(601), EMPTY), pairs(EMPTY, word_set(601))], [EMPTY, EMPTY])
         self.assertEqual(len(pairs(made((), words(200)), LINE)[2]), 200)
         self.assertEqual(len(pairs(join(LINE, word_set(298)), join(LINE, word_set(1)))[2]), 600)
         with self.assertRaises(TooMany):

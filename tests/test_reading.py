@@ -61,7 +61,8 @@ class Checked(unittest.TestCase):
         for many in (("set",), ("set", ()), ("set", (), (), ()), ("set", [], ()), ("set", (), []), ("set", None, ()),
                      ("set", (ONE, ZERO), ()), ("set", (ONE, ONE), (TWO,)), ("set", ((2, 2),), (TWO,)),
                      ("set", ((True, 1),), (TWO,)), ("set", ([0, 1],), (ONE,)), ("set", ("a",), (ONE,)),
-                     ("set", ZERO, (ONE,)), ("set", (), "a"), ("set", (), {}), ("set", ((0, True),), (ONE,))):
+                     ("set", ZERO, (ONE,)), ("set", (), "a"), ("set", (), {}), ("set", ((0, True),), (ONE,)), ("set", (), ["A"]),
+                     ("set", (), {"A": 1}), ("set", (), None), ("sets", (), ("A",)), ("rows", "A"), ("abc", (), ())):
             self.check(many, ())
 
     def test_no_path_leads_into_points(self):

@@ -151,22 +151,47 @@ class Expressions(Runs):
         self.check({"a": ABOVE, "b": LINE, "c": ABOVE}, 3, let("a", ("call", "f", (S,))), let("b", ("call", "f", (LINE_E,))),
                    let("c", ("call", "f", (S,))), functions=functions, inputs=(("s", POINTS),), values=[ABOVE])
 
-    def test_long_rows_of_functions(self):
+    def functions_in_a_row(self, many, first, step):
+        """So many functions of one point: the first one, and each other one made of the one ahead of it."""
         letters = "abcdefghijklmnopqrstuvwxyz"
-        names = ["f" + letters[k // 26] + letters[k % 26] for k in range(400)]
-        functions = [(names[0], (), ("each", X, "x", LINE_E, None))]
-        for k in range(1, 400):
-            functions.append((names[k], (), ("call", names[k - 1], ())))
-        made_of = program(let("a", ("call", names[-1], ())), functions=tuple(functions))
-        self.assertEqual([run(made_of, []), run_count(made_of, [])], [{"a": LINE}, 1])
-        functions = [functions[0]]
-        for k in range(1, 200):
-            functions.append((names[k], (), ("join", ("call", names[k - 1], ()), ("call", names[k - 1], ()))))
-        made_of = program(let("a", ("call", names[199], ())), functions=tuple(functions))
-        self.assertEqual(run(made_of, [], runs=2 ** 199), {"a": LINE})
-        self.assertEqual(run_count(made_of, []), 2 ** 199)
+        names = ["f" + letters[k // 26] + letters[k % 26] for k in range(many)]
+        functions = [(names[0], (("p", POINT),), first)]
+        for k in range(1, many):
+            functions.append((names[k], (("p", POINT),), step(("call", names[k - 1], (P,)))))
+        return functions, names[-1]
+
+    def test_long_rows_of_functions(self):
+        above = ("each", X, "x", LINE_E, ("before", P, X))
+        for many, step in ((350, lambda call: call), (180, lambda call: ("join", call, ("set", POINT, ()))), (150, lambda call: ("each", Y, "y", call, None))):
+            functions, last = self.functions_in_a_row(many, above, step)
+            made_of = program(let("a", ("call", last, (P,))), let("b", ("call", last, (("item", 0, ("name", "q")),))),
+                              inputs=(("p", POINT), ("q", ("row", POINT))), functions=tuple(functions))
+            told = run(made_of, [ZERO, ("row", ONE)])
+            self.assertEqual([told["a"], told["b"]], [ABOVE, OVER])
+            # The first function goes over three orbits, each other one that has a loop over one.
+            self.assertEqual(run_count(made_of, [ZERO, ("row", ONE)]), 2 * (3 + (many - 1) * (many == 150)))
+
+    def test_long_rows_of_functions_in_loops(self):
+        above = ("each", X, "x", LINE_E, ("before", P, X))
+        counts = []
+        for many in (5, 150):
+            functions, last = self.functions_in_a_row(many, above, lambda call: ("join", call, call))
+            functions.append(("many", (("s", POINTS),), ("each", ("call", last, (Z,)), "z", S, None)))
+            made_of = program(let("a", ("call", "many", (LINE_E,))), let("b", ("each", ("call", last, (Z,)), "z", S, None)), inputs=(("s", POINTS),), functions=tuple(functions))
+            told = run(made_of, [ABOVE], runs=2 ** 160)
+            self.assertEqual([told["a"], told["b"]], [made((), [ABOVE]), made((ZERO,), [OVER])])
+            counts.append(run_count(made_of, [ABOVE]))
+            with self.assertRaises(TooMany):
+                run(made_of, [ABOVE], runs=counts[-1] - 1)
+        self.assertEqual(counts, [2 + 2 * 3 * 2 ** 4, 2 + 2 * 3 * 2 ** 149])
+
+    def test_calls_within_one_another_twice_as_many_each_time(self):
+        functions, last = self.functions_in_a_row(180, ("each", X, "x", LINE_E, None), lambda call: ("join", call, call))
+        made_of = program(let("a", ("call", last, (P,))), inputs=(("p", POINT),), functions=tuple(functions))
+        self.assertEqual(run(made_of, [ZERO], runs=3 * 2 ** 179)["a"], LINE)
+        self.assertEqual(run_count(made_of, [ZERO]), 3 * 2 ** 179)
         with self.assertRaises(TooMany):
-            run(made_of, [], runs=2 ** 199 - 1)
+            run(made_of, [ZERO], runs=3 * 2 ** 179 - 1)
 
 
 class Conditions(Runs):

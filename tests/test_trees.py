@@ -45,7 +45,7 @@ class Kinds(unittest.TestCase):
         for value in ((), ("row",), ("row", POINT, POINT, POINT, POINT, POINT), ("set",), ("set", POINT, POINT), ("word", "a"),
                       ("point", ZERO), ("line",), "word", "point", None, True, 0, [], ["point"], {}, ("row", "point"), ("row", ["point"]),
                       ("set", None), ("set", ("point", 1)), (("point",),), (0, 1), LINE, ("set", ("set",)), ("row", POINT, ()), (True,),
-                      ("points",), Program((), (), ())):
+                      ("points",), Program((), (), ()), ("abc", POINT), ("line", POINT), ("sets", POINT), ([], POINT), ({}, POINT), (["set"], POINT)):
             self.assertIs(is_kind(value), False, value)
 
     def test_values_of_kinds(self):
@@ -57,7 +57,7 @@ class Kinds(unittest.TestCase):
 
     def test_values_of_other_kinds(self):
         for value, kind in (("a", POINT), ("a", WORDS), ("a", ("row", WORD)), (ZERO, WORD), (ZERO, PAIR), (ZERO, POINTS), (("row", ZERO, ONE), POINTS),
-                            (("row", ZERO, ONE), ("row", POINT)), (("row", ZERO), PAIR), (("row", ZERO, "a"), PAIR), (LINE, WORDS), (LINE, POINT),
+                            (("row", ZERO, ONE), ("row", POINT)), (("row", ZERO), PAIR), (("row", ZERO), POINTS), (("row", "a"), WORDS), (("row", ZERO, "a"), PAIR), (LINE, WORDS), (LINE, POINT),
                             (LINE, SETS), (EMPTY, POINT), (EMPTY, ("row", POINT)), (made((), [ZERO, "a"]), POINTS), (made((), [ZERO, "a"]), WORDS),
                             (made((), [LINE, made((), ["a"])]), SETS), (("row", LINE, "a"), ("row", WORDS, WORD)), (("row", ZERO, ONE), WORD)):
             self.assertIs(is_of(value, kind), False, (value, kind))
@@ -123,7 +123,7 @@ class Forms(Checked):
         for statement in (None, [], (), "let", ("let",), ("let", "a"), ("let", "a", A, A), ("let", "A", A), ("let", 1, A), A, HOLDS, (1, 2), (None,),
                           ("add", A), ("add", A, "A"), ("add", A, 1), ("add", A, "r", A), ("for", "x", LINE_E), ("for", "X", LINE_E, ()),
                           ("for", None, LINE_E, ()), ("for", "x", LINE_E, (), ()), ("if", HOLDS, ()), ("if", HOLDS, (), (), ()), ("grow", "r", LINE_E),
-                          ("grow", "R", LINE_E, ()), ("grow", "r", LINE_E, (), ()), ["let", "a", A], (("let",), "a", A), ("lets", "a", A), (True, "a", A)):
+                          ("grow", "R", LINE_E, ()), ("grow", "r", LINE_E, (), ()), ["let", "a", A], (("let",), "a", A), ("lets", "a", A), (True, "a", A), (["let"], "a", A), ({}, "a", A)):
             self.bad_block(BadProgram, (2, 1), let("aa", A), statement)
 
     def test_parts_of_statements(self):
@@ -141,7 +141,7 @@ class Forms(Checked):
                            ("item", "a", A), ("item", None, A), ("item", 0, A, A), ("set", POINT), ("set", POINT, (), ()), ("join", A), ("join", A, A, A), ("both", A), ("less", A),
                            ("pairs", A), ("pairs",), ("all",), ("all", A, A), ("each", A, "x", LINE_E), ("each", A, "X", LINE_E, None), ("each", A, 1, LINE_E, None),
                            ("each", A, "x", LINE_E, None, None), ("call", "f"), ("call", "F", ()), ("call", 1, ()), ("call", "f", (), ()), HOLDS, ("not", HOLDS), (0, 1),
-                           let("a", A), POINT, ["word", "a"], (None, "a"), ("before", P, P)):
+                           let("a", A), POINT, ["word", "a"], (None, "a"), ("before", P, P), (["word"], "a"), ({"word": 1}, "a")):
             self.bad_expression(BadProgram, (), expression)
 
     def test_points_of_thirty_figures(self):
@@ -161,7 +161,7 @@ class Forms(Checked):
     def test_conditions(self):
         for condition in (None, [], (), "same", A, LINE_E, ("same",), ("same", A), ("same", A, A, A), ("before", P), ("in", A), ("within", A, A, A), ("not",), ("not", HOLDS, HOLDS),
                           ("and", HOLDS), ("or", HOLDS), ("or", HOLDS, HOLDS, HOLDS), ("some", "x", LINE_E), ("some", "X", LINE_E, HOLDS), ("some", 1, LINE_E, HOLDS),
-                          ("every", "x", LINE_E), ("every", None, LINE_E, HOLDS), ("every", "x", LINE_E, HOLDS, HOLDS), ["same", A, A], ("sames", A, A), (True,), let("a", A)):
+                          ("every", "x", LINE_E), ("every", None, LINE_E, HOLDS), ("every", "x", LINE_E, HOLDS, HOLDS), ["same", A, A], ("sames", A, A), (True,), let("a", A), (["same"], A, A), ({}, A)):
             self.bad_condition(BadProgram, (), condition)
 
     def test_parts_of_conditions(self):
@@ -353,6 +353,8 @@ class Mixed(Checked):
         self.mixed((), ("pairs", A, name("s")))
         self.mixed((), ("pairs", name("deep"), name("s")))
         self.mixed((), ("all", name("s")))
+        self.mixed((1,), ("all", ("all", A)))
+        self.mixed((1, 2), ("all", ("join", name("ss"), ("all", A))))
         self.mixed((), ("all", name("rs")))
         self.mixed((), ("all", A))
         self.mixed((), ("pairs", name("s"), ("set", deep(POINT, 3), ())))
