@@ -80,16 +80,16 @@ def built(skeleton, codes, points):
 
 def ordered_keys(points, table):
     """The triples of a value's text, the value and its key, for each orbit of the table, in the order of the texts."""
-    rows = []
+    triples = []
     for key in table:
         value = built(table[key], key[1], points)
-        rows.append((value_text(value), value, key))
-    return sorted(rows, key=lambda row: row[0])
+        triples.append((value_text(value), value, key))
+    return sorted(triples, key=lambda triple: triple[0])
 
 
 def ordered(points, table):
     """The values that stand for the orbits of the table, in the order of their texts."""
-    return [row[1] for row in ordered_keys(points, table)]
+    return [value for _, value, _ in ordered_keys(points, table)]
 
 
 def refined(family, points):

@@ -55,7 +55,8 @@ def check_forms(inputs, functions, block):
     """Raises BadProgram with the path to the first thing that has not its form."""
     things = (("inputs", inputs), ("functions", functions), ("block", block))
     for at in range(3):
-        path = form_fault(*things[at])
+        sort, thing = things[at]
+        path = form_fault(sort, thing)
         if path is not None:
             raise BadProgram((at, *path))
 

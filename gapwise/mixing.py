@@ -19,7 +19,14 @@ def is_part(one, other):
     """Whether each member of one is a member of other."""
     way = passage(one.points, other.points)
     known = other.table()
-    return all([(key[0], codes) in known for key in one.table() for codes in way.finer(key[1])])
+    for text, codes in one.table():
+        # The orbit needs so many keys that other cannot have them all.
+        if way.ways(codes) > len(known):
+            return False
+        for met in way.finer(codes):
+            if (text, met) not in known:
+                return False
+    return True
 
 
 def is_same(one, other):

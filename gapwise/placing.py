@@ -31,11 +31,14 @@ def led_set(many, table):
     news = tuple([table[point] for point in olds])
     if news == olds:
         return many
-    rows = []
-    for member in many[2]:
-        new = replaced(member, olds, news)
-        rows.append((value_text(new), new))
-    return ("set", news, tuple([row[1] for row in sorted(rows, key=lambda row: row[0])]))
+    members = [replaced(member, olds, news) for member in many[2]]
+    return ("set", news, tuple(by_texts(members)))
+
+
+def by_texts(values):
+    """The values in the order of their texts."""
+    pairs = sorted([(value_text(value), value) for value in values], key=lambda pair: pair[0])
+    return [value for _, value in pairs]
 
 
 def replaced(value, olds, news):
