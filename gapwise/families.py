@@ -45,7 +45,8 @@ class Family:
 
     def has(self, value):
         """Whether a value is a member."""
-        return key_of(value, self.points) in self.table()
+        key, _ = keyed(value, self.points)
+        return key in self.table()
 
 
 def opened(many):
@@ -53,9 +54,10 @@ def opened(many):
     return Family(many[1], None, many)
 
 
-def key_of(value, points):
-    """The key of the value's orbit over points."""
-    return (value_text(placed(value, ())), codes_of(support(value), points))
+def keyed(value, points):
+    """The key of the value's orbit over points, and its skeleton."""
+    skeleton = placed(value, ())
+    return (value_text(skeleton), codes_of(support(value), points)), skeleton
 
 
 def table_of(points, values):
@@ -68,8 +70,8 @@ def table_of(points, values):
 
 def put_value(table, value, points):
     """Puts the value's orbit over points into a table."""
-    skeleton = placed(value, ())
-    table[(value_text(skeleton), codes_of(support(value), points))] = skeleton
+    key, skeleton = keyed(value, points)
+    table[key] = skeleton
 
 
 def built(skeleton, codes, points):

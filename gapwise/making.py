@@ -31,9 +31,9 @@ def needed(many, point):
         raise NoPoint(point)
     points, table = many[1], opened(many).table()
     at = points.index(point)
-    for text, codes in table:
-        for other in splits(without(codes, at), at):
-            if (text, other) not in table:
-                skeleton = table[(text, codes)]
-                return (built(skeleton, codes, points), built(skeleton, other, points))
-    raise NoPoint(point)
+    # In its one form the set lacks a key beside one that it has, or the point would have been left out.
+    lacking = [(one, codes) for one in table for codes in splits(without(one[1], at), at)
+               if (one[0], codes) not in table]
+    key, lacked = lacking[0]
+    skeleton = table[key]
+    return (built(skeleton, key[1], points), built(skeleton, lacked, points))

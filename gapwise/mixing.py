@@ -1,9 +1,9 @@
 """Families made of families. Where a number of most orbits is passed, and not None, more of them are too many."""
 
-from gapwise.codes import Passage, codes_of, crossings, gap_counts, passage
+from gapwise.codes import Passage, crossings, gap_counts, passage
 from gapwise.errors import TooMany
-from gapwise.families import Family, least, opened, refined, refined_count
-from gapwise.placing import led, placed
+from gapwise.families import Family, least, opened, put_value, refined, refined_count
+from gapwise.placing import led
 from gapwise.points import merged_points
 from gapwise.values import support, value_text
 
@@ -98,21 +98,19 @@ def with_member(family, value, most):
     A value that is no member and has further points needs all points of both: led along the line with one of its
     further points, it is still no member, so no point can be left out for its sake.
     """
-    skeleton, places = placed(value, ()), support(value)
-    key = (value_text(skeleton), codes_of(places, family.points))
-    if key in family.table():
+    if family.has(value):
         return None
-    points = merged_points(family.points, places)
+    points = merged_points(family.points, support(value))
     if points == family.points:
-        return least(points, with_key(family.table(), key, skeleton))
+        return least(points, with_value(family.table(), value, points))
     check_many(refined_count(family, points) + 1, most)
-    return Family(points, with_key(refined(family, points), (key[0], codes_of(places, points)), skeleton))
+    return Family(points, with_value(refined(family, points), value, points))
 
 
-def with_key(table, key, skeleton):
-    """A new table that has one key more."""
-    grown = {known: table[known] for known in table}
-    grown[key] = skeleton
+def with_value(table, value, points):
+    """A new table over points that has the value's orbit, too."""
+    grown = {key: table[key] for key in table}
+    put_value(grown, value, points)
     return grown
 
 
