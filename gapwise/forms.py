@@ -1,8 +1,9 @@
 """The forms of a program's parts, whatever their names and kinds.
 
-Each thing in a program is of a SORT: "inputs", "input", "functions", "function", "kind" and "inner" (a kind that is
-part of a kind), "expression", "condition", "choice" (a condition or None), "statement", "block", "many" (expressions)
-and "few" (one to four of them). The other sorts, "word", "point" and "place", belong to the tuple that they stand in.
+Each thing in a program is of a SORT: "inputs", "entry" (a name and its kind), "functions", "function", "kind" and
+"inner" (a kind that is part of a kind), "expression", "condition", "choice" (a condition or None), "statement",
+"block", "many" (expressions) and "few" (one to four of them). The other sorts, "word", "point" and "place", belong to
+the tuple that they stand in.
 """
 
 from gapwise.errors import BadProgram
@@ -12,8 +13,8 @@ from gapwise.values import is_word
 DEEPEST = 4
 TOO_LONG = 10 ** 30
 
-LISTED = {"inputs": "input", "functions": "function", "block": "statement", "many": "expression", "few": "expression"}
-TOLD = {"input": ("word", "kind"), "function": ("word", "inputs", "expression")}
+LISTED = {"inputs": "entry", "functions": "function", "block": "statement", "many": "expression", "few": "expression"}
+TOLD = {"entry": ("word", "kind"), "function": ("word", "inputs", "expression")}
 PLAIN = ("word", "point", "place")
 EXPRESSIONS = {
     "word": ("word",),

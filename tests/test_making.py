@@ -2,12 +2,12 @@ import unittest
 
 from gapwise.errors import NoPoint, NotThere
 from gapwise.making import EMPTY, LINE, is_in, made, needed, orbits
-from gapwise.placing import are_alike, placed
+from gapwise.placing import are_alike, moved, placed
 from gapwise.points import make_point, merged_points
 from gapwise.reading import check_value
 from gapwise.trees import Program
 from gapwise.values import depth, value_text
-from tests.helping import copy_of, is_same_thing, seeded, some_points, some_set, some_value
+from tests.helping import ascending, copy_of, is_same_thing, seeded, some_points, some_set, some_value
 
 ZERO, HALF, ONE, TWO, THREE = (0, 1), (1, 2), (1, 1), (2, 1), (3, 1)
 ABOVE = ("set", (ZERO,), (ONE,))
@@ -134,6 +134,30 @@ class Made(unittest.TestCase):
         self.assertEqual(orbits(many, ()), list(many[2]))
         self.assertTrue(all(is_in(row, many) for row in rows))
         for point in points:
+            v, w = needed(many, point)
+            self.assertEqual((is_in(v, many), is_in(w, many)), (True, False))
+
+
+    def test_six_hundred_told_members_those_of_sets_within_counted(self):
+        chance = seeded(16)
+        quarters = [make_point(k, 4) for k in range(-20, 60)]
+        four = ascending(chance.sample(quarters, 4))
+        parts = []
+        for _ in range(4):
+            points = merged_points(four, ascending(chance.sample(quarters, 4)))
+            parts.append(made(points, [("row", *[chance.choice(quarters) for _ in range(4)]) for _ in range(148)]))
+        many = made(four, parts)
+        self.assertGreater(sum(len(part[2]) for part in many[2]), 560)
+        self.assertEqual((many[1], len(many[2])), (four, 4))
+        self.assertIsNone(check_value(many))
+        self.assertTrue(all(is_in(part, many) for part in parts))
+        move = tuple((point, make_point(3 * point[0] + 1, 5 * point[1])) for point in four)
+        news = tuple(new for _, new in move)
+        self.assertEqual(moved(moved(many, move), tuple(zip(news, four))), many)
+        further = ascending(chance.sample(quarters, 2))
+        values = orbits(many, further)
+        self.assertEqual(made(merged_points(four, further), values), many)
+        for point in four:
             v, w = needed(many, point)
             self.assertEqual((is_in(v, many), is_in(w, many)), (True, False))
 
