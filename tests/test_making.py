@@ -151,7 +151,7 @@ class Made(unittest.TestCase):
         self.assertEqual((many[1], len(many[2])), (four, 4))
         self.assertIsNone(check_value(many))
         self.assertTrue(all(is_in(part, many) for part in parts))
-        move = tuple((point, make_point(3 * point[0] + 1, 5 * point[1])) for point in four)
+        move = tuple((point, make_point(3 * point[0] + point[1], 5 * point[1])) for point in four)
         news = tuple(new for _, new in move)
         self.assertEqual(moved(moved(many, move), tuple(zip(news, four))), many)
         further = ascending(chance.sample(quarters, 2))
