@@ -74,17 +74,26 @@ def put_value(table, value, points):
     table[key] = skeleton
 
 
+def way_out(codes, points):
+    """The table that leads the points of a skeleton to places with these codes over points."""
+    places = places_of(codes, points)
+    return {(at, 1): places[at] for at in range(len(places))}
+
+
 def built(skeleton, codes, points):
     """The value with this skeleton and these codes, placed over points."""
-    places = places_of(codes, points)
-    return led(skeleton, {(at, 1): places[at] for at in range(len(places))})
+    return led(skeleton, way_out(codes, points))
 
 
 def ordered_keys(points, table):
     """The triples of a value's text, the value and its key, for each orbit of the table, in the order of the texts."""
-    triples = []
+    triples, ways = [], {}
     for key in table:
-        value = built(table[key], key[1], points)
+        # Often many keys have the same codes.
+        codes = key[1]
+        if codes not in ways:
+            ways[codes] = way_out(codes, points)
+        value = led(table[key], ways[codes])
         triples.append((value_text(value), value, key))
     return sorted(triples, key=lambda triple: triple[0])
 

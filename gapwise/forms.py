@@ -110,7 +110,8 @@ def told_parts(sorts, thing, start):
     if len(thing) != start + len(sorts):
         return None
     parts = []
-    for sort, at in zip(sorts, range(start, len(thing))):
+    for at in range(start, len(thing)):
+        sort = sorts[at - start]
         if sort not in PLAIN:
             parts.append((at, sort, thing[at]))
         elif not is_plainly(sort, thing[at]):

@@ -230,7 +230,8 @@ class Statements(unittest.TestCase):
                 if isinstance(node, ast.Call) and isinstance(node.func, ast.Name) and node.func.id in lazy:
                     parent = parents[node]
                     fine = isinstance(parent, (ast.For, ast.comprehension)) or (
-                        isinstance(parent, ast.Call) and isinstance(parent.func, ast.Name) and parent.func.id in takers)
+                        isinstance(parent, ast.Call) and isinstance(parent.func, ast.Name) and parent.func.id in takers
+                        and parent.args[0] is node)
                     self.assertTrue(fine, (name, node.lineno))
 
     def test_errors_are_made_where_they_are_raised(self):
