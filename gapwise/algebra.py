@@ -1,7 +1,8 @@
 """Sets joined, met, taken from one another and compared."""
 
-from gapwise.families import least, opened, ordered, ordered_keys, refined
-from gapwise.mixing import flattened, is_part, joined, parted, rest, shared
+from gapwise.families import least, opened, ordered_keys, refined
+from gapwise.lettering import first_of_slices
+from gapwise.mixing import flattened, is_part, joined, rest, shared, slices
 from gapwise.points import merged_points
 
 
@@ -32,8 +33,14 @@ def is_within(one, other):
 
 def outside(one, other):
     """The first orbit's value of one, over the joined points, that is no member of other; None if there is none."""
-    strange = ordered(joined_points(one, other), parted(opened(one), opened(other), False, None))
-    return strange[0] if strange else None
+    left, right = opened(one), opened(other)
+    points = joined_points(one, other)
+    if points == one[1]:
+        for value in one[2]:
+            if not right.has(value):
+                return value
+        return None
+    return first_of_slices(points, left.table(), slices(left, right, points, False, None))
 
 
 def orbit_sets(many, points):

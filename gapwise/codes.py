@@ -10,6 +10,8 @@ from gapwise.points import code_of, spread
 
 def codes_of(places, points):
     """The codes of ascending places over points."""
+    if not points:
+        return (0,) * len(places)
     return tuple([code_of(points, place) for place in places])
 
 
@@ -75,6 +77,7 @@ class Passage:
         self.lows = [0, *[spot + spot % 2 for spot in spots]]
         self.highs = [*[spot - spot % 2 for spot in spots], top]
         self.known = {}
+        self.counts = {}
 
     def coarse(self, codes):
         """The only codes there are if all new points are old ones."""
@@ -82,10 +85,12 @@ class Passage:
 
     def ways(self, codes):
         """How many rows of codes finer returns."""
-        total = 1
-        for gap in sorted({code // 2 for code in codes if code % 2 == 0}):
-            total = total * crossings(codes.count(2 * gap), (self.highs[gap] - self.lows[gap]) // 2)
-        return total
+        if codes not in self.counts:
+            total = 1
+            for gap in sorted({code // 2 for code in codes if code % 2 == 0}):
+                total = total * crossings(codes.count(2 * gap), (self.highs[gap] - self.lows[gap]) // 2)
+            self.counts[codes] = total
+        return self.counts[codes]
 
     def finer(self, codes):
         """The list of all codes over the new points that points of these codes over the old ones can have."""

@@ -9,6 +9,9 @@ from gapwise.codes import codes_of, passage, places_of
 from gapwise.placing import led, placed
 from gapwise.values import support, value_text
 
+# As many questions for members, and no more, are answered for each told member without a table.
+FEW = 16
+
 
 class Family:
     """A set of values that is made of orbits over points.
@@ -22,6 +25,9 @@ class Family:
         self._table = table
         self._many = many
         self._written = None
+        self._codes = None
+        self._asked = 0
+        self._texts = None
 
     def table(self):
         if self._table is None:
@@ -43,9 +49,51 @@ class Family:
         """How many orbits it has over its points."""
         return len(self._many[2]) if self._table is None else len(self._table)
 
+    def example(self):
+        """Any member."""
+        if self._many is not None:
+            return self._many[2][0]
+        key = next(iter(self._table), None)
+        return built(self._table[key], key[1], self.points)
+
+    def codes(self):
+        """How many of its orbits have which codes."""
+        if self._codes is None:
+            self._codes = {}
+            if self._table is None:
+                for codes, _ in spots(self._many[2], self.points):
+                    self._codes[codes] = self._codes.get(codes, 0) + 1
+            else:
+                for _, codes in self._table:
+                    self._codes[codes] = self._codes.get(codes, 0) + 1
+        return self._codes
+
+    def may_have(self, text):
+        """Whether there may be orbits whose skeleton has this text; without a table it is not looked up."""
+        if self._table is None:
+            return True
+        if self._texts is None:
+            self._texts = {text: True for text, _ in self._table}
+        return text in self._texts
+
+    def asks_few(self):
+        """Whether so little has been asked for that a table would not pay."""
+        if self._table is not None:
+            return False
+        self._asked += 1
+        return self._asked * FEW <= len(self._many[2])
+
     def has(self, value):
         """Whether a value is a member."""
+        if self.asks_few():
+            return placed(value, self.points) in self._many[2]
         key, _ = keyed(value, self.points)
+        return key in self.table()
+
+    def has_key(self, key, skeleton):
+        """Whether the orbit with this key and skeleton is there."""
+        if self.asks_few():
+            return built(skeleton, key[1], self.points) in self._many[2]
         return key in self.table()
 
 
@@ -63,9 +111,25 @@ def keyed(value, points):
 def table_of(points, values):
     """The table of all values that are alike over points to one of values."""
     table = {}
-    for value in values:
-        put_value(table, value, points)
+    ways = spots(values, points)
+    for at in range(len(values)):
+        codes, way = ways[at]
+        skeleton = values[at] if way is None else led(values[at], way)
+        table[(value_text(skeleton), codes)] = skeleton
     return table
+
+
+def spots(values, points):
+    """For each value its codes over points, and the table that leads its points to its skeleton's, None if there."""
+    known, found = {}, []
+    for value in values:
+        # Often many values have the same support.
+        held = support(value)
+        if held not in known:
+            ranks = tuple([(at, 1) for at in range(len(held))])
+            known[held] = (codes_of(held, points), None if ranks == held else dict(zip(held, ranks)))
+        found.append(known[held])
+    return found
 
 
 def put_value(table, value, points):
@@ -75,14 +139,16 @@ def put_value(table, value, points):
 
 
 def way_out(codes, points):
-    """The table that leads the points of a skeleton to places with these codes over points."""
+    """The table that leads the points of a skeleton to places with these codes over points, None if they are there."""
     places = places_of(codes, points)
-    return {(at, 1): places[at] for at in range(len(places))}
+    ranks = [(at, 1) for at in range(len(places))]
+    return None if places == ranks else dict(zip(ranks, places))
 
 
 def built(skeleton, codes, points):
     """The value with this skeleton and these codes, placed over points."""
-    return led(skeleton, way_out(codes, points))
+    way = way_out(codes, points)
+    return skeleton if way is None else led(skeleton, way)
 
 
 def ordered_keys(points, table):
@@ -93,8 +159,12 @@ def ordered_keys(points, table):
         codes = key[1]
         if codes not in ways:
             ways[codes] = way_out(codes, points)
-        value = led(table[key], ways[codes])
-        triples.append((value_text(value), value, key))
+        way = ways[codes]
+        if way is None:
+            triples.append((key[0], table[key], key))
+        else:
+            value = led(table[key], way)
+            triples.append((value_text(value), value, key))
     return sorted(triples, key=lambda triple: triple[0])
 
 
@@ -117,12 +187,13 @@ def refined_count(family, points):
     if family.points == points:
         return family.told()
     way = passage(family.points, points)
-    return sum([way.ways(codes) for _, codes in family.table()])
+    counts = family.codes()
+    return sum([way.ways(codes) * counts[codes] for codes in counts])
 
 
 def least(points, table):
     """The family of a table over points, told over the points that can't be left out."""
-    idle = idle_points(points, table)
+    idle = idle_points(points, table) if points else []
     if not any(idle):
         return Family(points, table)
     kept = tuple([points[at] for at in range(len(points)) if not idle[at]])
@@ -133,9 +204,12 @@ def least(points, table):
 def idle_points(points, table):
     """For each point whether it can be left out: all keys that one gap would make of its place are there."""
     groups = [{} for _ in points]
+    known = {}
     for text, codes in table:
-        for at in touched(codes, len(points)):
-            group = (text, without(codes, at))
+        if codes not in known:
+            known[codes] = [(at, without(codes, at)) for at in touched(codes, len(points))]
+        for at, wide in known[codes]:
+            group = (text, wide)
             groups[at][group] = groups[at].get(group, 0) + 1
     return [is_full(groups[at], at) for at in range(len(points))]
 

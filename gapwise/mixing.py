@@ -17,14 +17,16 @@ def check_many(many, most):
 
 def is_part(one, other):
     """Whether each member of one is a member of other."""
+    if one.told() and not other.has(one.example()):
+        return False
     way = passage(one.points, other.points)
-    known = other.table()
-    for text, codes in one.table():
+    table = one.table()
+    for key in table:
         # The orbit needs so many keys that other cannot have them all.
-        if way.ways(codes) > len(known):
+        if way.ways(key[1]) > other.told():
             return False
-        for met in way.finer(codes):
-            if (text, met) not in known:
+        for met in way.finer(key[1]):
+            if not other.has_key((key[0], met), table[key]):
                 return False
     return True
 
@@ -42,6 +44,10 @@ def joined(one, other, most=MOST):
     points = merged_points(one.points, other.points)
     check_many(refined_count(one, points), most)
     check_many(refined_count(other, points), most)
+    if is_part(other, one):
+        return one
+    if is_part(one, other):
+        return other
     left, right = refined(one, points), refined(other, points)
     table = {key: part[key] for part in (left, right) for key in part}
     check_many(len(table), most)
@@ -50,45 +56,60 @@ def joined(one, other, most=MOST):
 
 def united(one, other):
     """The family of all members of one or other, however many."""
-    if is_part(other, one):
-        return one
-    return other if is_part(one, other) else joined(one, other, None)
+    return joined(one, other, None)
 
 
 def shared(one, other, most=MOST):
     """The family of the members of both."""
     points = merged_points(one.points, other.points)
-    if refined_count(one, points) > refined_count(other, points):
+    if one.told() > other.told():
         return least(points, parted(other, one, True, most))
     return least(points, parted(one, other, True, most))
 
 
 def rest(one, other, most=MOST):
     """The family of the members of one that are no members of other."""
-    return least(merged_points(one.points, other.points), parted(one, other, False, most))
+    points = merged_points(one.points, other.points)
+    many = refined_count(one, points)
+    if most is not None and many > most:
+        check_many(many - refined_count(other, points), most)
+    return least(points, parted(one, other, False, most))
 
 
 def parted(one, other, inside, most):
-    """The table, over the points of both, of the members of one that lie inside of other, or of those that don't.
-
-    An orbit of one of which other has all, or nothing, is not looked at piece by piece.
-    """
+    """The table, over the points of both, of the members of one that lie inside of other, or of those that don't."""
     points = merged_points(one.points, other.points)
+    table = one.table()
+    return {(key[0], codes): table[key] for key, many in slices(one, other, points, inside, most) for codes in many}
+
+
+def slices(one, other, points, inside, most):
+    """The keys of those orbits of one that have a part inside of other, or one that isn't, each with this part's codes.
+
+    The codes are over points, those of both. An orbit of which other has all, or nothing, is not looked at piece by
+    piece.
+    """
     fine, back = passage(one.points, points), passage(points, other.points)
     across = passage(one.points, other.points)
-    table, known, found = one.table(), other.table(), {}
+    table, found, total = one.table(), [], 0
     for key in table:
         text, codes = key
-        hits = [(text, met) in known for met in across.finer(codes)]
+        skeleton = table[key]
+        if other.may_have(text):
+            hits = [other.has_key((text, met), skeleton) for met in across.finer(codes)]
+        else:
+            hits = [False]
         if inside not in hits:
             continue
-        pure = (not inside) not in hits
-        if pure:
-            check_many(len(found) + fine.ways(codes), most)
-        for finer in fine.finer(codes):
-            if pure or ((text, back.coarse(finer)) in known) == inside:
-                found[(text, finer)] = table[key]
-        check_many(len(found), most)
+        if (not inside) not in hits:
+            check_many(total + fine.ways(codes), most)
+            many = fine.finer(codes)
+        else:
+            many = [finer for finer in fine.finer(codes)
+                    if other.has_key((text, back.coarse(finer)), skeleton) == inside]
+        total += len(many)
+        check_many(total, most)
+        found.append((key, many))
     return found
 
 
@@ -129,20 +150,21 @@ def flattened(family, most=MOST):
     return least(family.points, found)
 
 
-def count_shapes(points, table):
-    """How many orbits of a table over points have so many points in the gaps."""
-    counts = {}
-    for _, codes in table:
-        counted = gap_counts(codes, len(points))
-        counts[counted] = counts.get(counted, 0) + 1
+def count_shapes(points, family):
+    """How many orbits of the family over points have so many points in the gaps."""
+    way = passage(family.points, points)
+    known, counts = family.codes(), {}
+    for codes in known:
+        for finer in way.finer(codes):
+            counted = gap_counts(finer, len(points))
+            counts[counted] = counts.get(counted, 0) + known[codes]
     return counts
 
 
 def paired_count(one, other):
     """How many orbits the rows of a member of one and a member of other have over the points of both."""
     points = merged_points(one.points, other.points)
-    lefts = count_shapes(points, refined(one, points))
-    rights = count_shapes(points, refined(other, points))
+    lefts, rights = count_shapes(points, one), count_shapes(points, other)
     total = 0
     for left in lefts:
         for right in rights:

@@ -19,7 +19,7 @@ def led(value, table):
     if isinstance(value, str):
         return value
     if value[0] == "row":
-        return ("row", *[led(part, table) for part in value[1:]])
+        return ("row", *[part if isinstance(part, str) else led(part, table) for part in value[1:]])
     if value[0] == "set":
         return led_set(value, table)
     return table[value]
@@ -44,8 +44,8 @@ def by_texts(values):
 def replaced(value, olds, news):
     """The value that lies over news as this one lies over olds, placed."""
     points = support(value)
-    places = places_of(codes_of(points, olds), news)
-    return led(value, dict(zip(points, places)))
+    places = tuple(places_of(codes_of(points, olds), news))
+    return value if places == points else led(value, dict(zip(points, places)))
 
 
 def placed(value, points):

@@ -30,7 +30,8 @@ def support(value):
         return (value,)
     found = ()
     for part in value[1:]:
-        found = merged_points(found, support(part))
+        if not isinstance(part, str):
+            found = merged_points(found, support(part))
     return found
 
 
@@ -48,7 +49,7 @@ def value_text(value):
     if isinstance(value, str):
         return value
     if value[0] == "row":
-        return "<" + " ".join([value_text(part) for part in value[1:]]) + ">"
+        return "<" + " ".join([part if isinstance(part, str) else value_text(part) for part in value[1:]]) + ">"
     if value[0] == "set":
         points = " ".join([value_text(point) for point in value[1]])
         members = " ".join([value_text(member) for member in value[2]])
