@@ -2,7 +2,8 @@
 
 import unittest
 
-from gapwise import algebra, likeness, making, placing, points, products, reading, running, trees, values
+from gapwise import (
+    algebra, greater, likeness, making, placing, plainrun, points, products, programtexts, reading, running, samples, sizes, trees, values)
 from gapwise.errors import LineError, NotThere
 from gapwise.making import LINE, made
 from tests.helping import copy_of, is_same_thing
@@ -14,6 +15,9 @@ SETS = made((ZERO,), [ABOVE, LINE])
 MOVE = ((ZERO, ONE), (ONE, THREE))
 BLOCK = (("let", "r", ("set", ("point",), ())), ("for", "x", ("name", "s"), (("add", ("name", "x"), "r"),)))
 PROGRAM = trees.Program((("s", ("set", ("point",))),), (), BLOCK)
+ROWS = (("let", "r", ("set", ("row", ("point",)), ())), ("for", "x", ("name", "s"), (("add", ("row", (("name", "x"),)), "r"),)))
+PLAIN = trees.Program((("s", ("set", ("point",))),), (), (*ROWS, ("let", "p", ("point", TWO))))
+ABOVE_SIZE = sizes.Size(2, [((0, 1), 1)])
 
 CALLS = [
     (points.make_point, [4, -6]), (points.make_point, [4, 0]), (points.is_before, [ZERO, ONE]), (points.gap_of, [(ZERO, TWO), ONE]),
@@ -33,7 +37,18 @@ CALLS = [
     (trees.Program, [[], (), ()]), (trees.Program, [(), (), (["let", "a", ("line",)],)]), (trees.Program, [(("p", ["point"]),), (), ()]), (trees.Program, [(), (), BLOCK[:1]]),
     (trees.Program, [(("s", ("set", ("point",))),), (), BLOCK]),
     (running.run, [PROGRAM, [ABOVE]]), (running.run, [PROGRAM, (ABOVE,)]), (running.run_count, [PROGRAM, [ABOVE]]), (running.is_told, [PROGRAM, [ABOVE], "r", ONE]),
-    (running.is_told, [PROGRAM, [ABOVE], ["r"], ONE]), (running.is_told, [PROGRAM, [ABOVE], "r", [1, 1]])]
+    (running.is_told, [PROGRAM, [ABOVE], ["r"], ONE]), (running.is_told, [PROGRAM, [ABOVE], "r", [1, 1]]),
+    (plainrun.is_plain, [PLAIN]), (plainrun.plain_run, [PLAIN, [ABOVE], (ZERO, ONE, TWO)]), (plainrun.plain_run, [PLAIN, (ABOVE,), (ZERO, TWO)]),
+    (plainrun.plain_run, [PLAIN, [ABOVE], (ONE,)]),
+    (programtexts.moved_program, [PLAIN, ((TWO, THREE),)]), (programtexts.moved_program, [PLAIN, ()]), (programtexts.renamed_program, [PLAIN, {"x": "s"}]),
+    (programtexts.renamed_program, [PLAIN, {"x": "y", "s": "x"}]), (programtexts.program_text, [PLAIN]), (programtexts.read_program, ["[] [] []"]),
+    (programtexts.read_program, ["[] [] [(let a (point 2/4))]"]), (programtexts.read_program, [["[]"]]),
+    (samples.members_on, [LINE, (ZERO, ONE)]), (samples.members_on, [ABOVE, [ZERO]]), (samples.count, [LINE, (ZERO, ONE)]), (samples.count, [ABOVE, {"a": [1]}]),
+    (sizes.Size, [2, [((0, 1), 1), ((0, 1), 2)]]), (sizes.Size, [1, (((0,), 0),)]), (ABOVE_SIZE.__call__, [[3, 4]]), (ABOVE_SIZE.__call__, [(3, 4)]), (ABOVE_SIZE.finer, [1]),
+    (ABOVE_SIZE.greatest, []), (ABOVE_SIZE.at_most, [ABOVE_SIZE]), (ABOVE_SIZE.at_most, [sizes.Size(1, [])]), (sizes.size_of, [ABOVE, (ONE,)]),
+    (greater.as_great, [LINE, LINE]), (greater.as_great, [LINE, ABOVE]), (greater.into_map, [LINE, RISING, (ZERO,)]), (greater.into_map, [ABOVE, LINE, (ONE,)]),
+    (greater.into, [LINE, RISING]), (greater.into, [RISING, LINE]), (greater.order, [LINE, RISING]), (greater.standard, [(ZERO,), ABOVE_SIZE]),
+    (greater.standard, [(), sizes.Size(1, [((4,), 1)])])]
 
 
 def lists_in(thing):
@@ -44,7 +59,7 @@ def lists_in(thing):
         return [thing] * isinstance(thing, list) + sum([lists_in(part) for part in thing], [])
     if isinstance(thing, Exception):
         return sum([lists_in(part) for part in vars(thing).values()], []) + lists_in(thing.args)
-    if isinstance(thing, trees.Program):
+    if isinstance(thing, (trees.Program, sizes.Size)):
         return lists_in(list(vars(thing).values()))[1:]
     return []
 
@@ -73,7 +88,8 @@ class Arguments(unittest.TestCase):
     def test_told_lists_are_new_each_time(self):
         for function, parts in CALLS:
             first, second = told_by(function, parts), told_by(function, parts)
-            if isinstance(first, trees.Program):
+            if isinstance(first, (trees.Program, sizes.Size)):
+                self.assertEqual(first, second)
                 continue
             for one in lists_in(first):
                 self.assertFalse(any(one is other for other in lists_in(second)), function)
@@ -89,7 +105,8 @@ class Arguments(unittest.TestCase):
     def test_what_is_told_is_of_the_kind_that_is_told(self):
         kinds = {points.spread: list, making.orbits: list, algebra.orbit_sets: list, running.run: dict, making.made: tuple, placing.shape: tuple, values.support: tuple,
                  likeness.alike_moves: tuple, algebra.joined_points: tuple, running.run_count: int, products.many_pairs: int, running.is_told: bool, making.is_in: bool,
-                 trees.is_kind: bool, trees.is_of: bool, algebra.is_within: bool, placing.are_alike: bool, points.is_before: bool, values.value_text: str}
+                 trees.is_kind: bool, trees.is_of: bool, algebra.is_within: bool, placing.are_alike: bool, points.is_before: bool, values.value_text: str, plainrun.is_plain: bool, plainrun.plain_run: dict, samples.members_on: list,
+                 samples.count: int, programtexts.program_text: str, greater.as_great: tuple, greater.into: tuple, greater.into_map: tuple, greater.order: int}
         for function, parts in CALLS:
             told = told_by(function, parts)
             if function in kinds and not isinstance(told, Exception):
@@ -100,7 +117,9 @@ class Arguments(unittest.TestCase):
             points: "make_point is_before gap_of spread", values: "support depth value_text", placing: "moved placed are_alike shape",
             making: "made orbits is_in needed", reading: "check_value read_value",
             algebra: "joined_points join both less is_within outside orbit_sets all_of", products: "merges many_pairs pairs firsts seconds",
-            likeness: "alike_moves", trees: "is_kind is_of Program", running: "run run_count is_told"}
+            likeness: "alike_moves", trees: "is_kind is_of Program", running: "run run_count is_told",
+            plainrun: "is_plain plain_run", programtexts: "moved_program renamed_program program_text read_program", samples: "members_on count",
+            sizes: "Size size_of", greater: "as_great into_map into order standard"}
         for module, names in listed.items():
             for name in names.split():
                 self.assertEqual(getattr(module, name).__module__, module.__name__, name)

@@ -96,7 +96,8 @@ class Files(unittest.TestCase):
                 self.assertLessEqual(function.end_lineno - function.lineno + 1, 40, (name, function.name))
 
     def test_imports(self):
-        library = {"math": {"gcd", "lcm", "isqrt", "comb", "perm", "factorial"}}
+        library = {
+            "math": {"gcd", "lcm", "isqrt", "comb", "perm", "factorial"}, "itertools": {"product", "combinations", "permutations"}}
         ahead = {}
         for name, tree in trees().items():
             ahead[name] = []
