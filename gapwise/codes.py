@@ -31,6 +31,12 @@ def places_of(codes, points):
     return places
 
 
+def filled(points, counts):
+    """The tuple of spread places with so many of them in each gap of points."""
+    codes = [2 * gap for gap in range(len(counts)) for _ in range(counts[gap])]
+    return tuple(places_of(tuple(codes), points))
+
+
 def gap_counts(codes, many):
     """How many of the codes lie in each gap of so many points."""
     counts = [0] * (many + 1)

@@ -3,7 +3,7 @@
 from math import comb
 
 from gapwise.algebra import joined_points
-from gapwise.codes import places_of
+from gapwise.codes import filled
 from gapwise.errors import BadSize, TooMany
 from gapwise.families import opened, refined_count
 from gapwise.making import made, orbits
@@ -31,12 +31,6 @@ def as_great(one, other):
 def check_orbits(many, points):
     if refined_count(opened(many), points) > MOST:
         raise TooMany()
-
-
-def filled(points, counts):
-    """The tuple of spread places with so many of them in each gap of points."""
-    codes = [2 * gap for gap in range(len(counts)) for _ in range(counts[gap])]
-    return tuple(places_of(tuple(codes), points))
 
 
 def matched(one, other, points):

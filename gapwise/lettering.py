@@ -6,41 +6,49 @@ from gapwise.values import value_text
 
 
 def text_pieces(value):
-    """The text of the value, with its points between the strings, themselves; None if a set in it has points.
+    """The text of the value, with its points between the strings, themselves, and whether this is all of it.
 
-    With the points led elsewhere the strings stay: only a set's members would change their order. Between two points
-    there is always a string.
+    With the points led elsewhere the strings stay; only a set's members would change their order, so if a set has
+    points its text is told up to its members. Between two points there is always a string.
     """
     pieces = []
-    run = put_pieces(pieces, "", value)
-    if run is None:
-        return None
+    run, is_whole = put_pieces(pieces, "", value)
     if run:
         pieces.append(run)
-    return pieces
+    return pieces, is_whole
 
 
 def put_pieces(pieces, run, value):
-    """Puts the pieces of the text behind others; run is the string they end with, the new one is returned, or None."""
+    """Puts the pieces of the text behind others, which end with a string, the run.
+
+    It returns the new run, and whether the text could be told to its end.
+    """
     if isinstance(value, str):
-        return run + value
+        return run + value, True
+    mark = "<"
     if value[0] == "set":
-        return None if value[1] else run + value_text(value)
+        if not value[1]:
+            return run + value_text(value), True
+        mark = "{"
+        for point in value[1]:
+            pieces.extend([run + mark, point])
+            run, mark = "", " "
+        return "|", False
     if value[0] != "row":
         if run:
             pieces.append(run)
         pieces.append(value)
-        return ""
-    mark = "<"
+        return "", True
     for part in value[1:]:
+        run = run + mark
         if isinstance(part, str):
-            run = run + mark + part
+            run = run + part
         else:
-            run = put_pieces(pieces, run + mark, part)
-            if run is None:
-                return None
+            run, is_whole = put_pieces(pieces, run, part)
+            if not is_whole:
+                return run, False
         mark = " "
-    return run + ">"
+    return run + ">", True
 
 
 class Namer:
@@ -58,10 +66,8 @@ class Namer:
             self.names[codes] = {(at, 1): value_text(places[at]) for at in range(len(places))}
         return self.names[codes]
 
-    def told_text(self, skeleton, pieces, codes):
-        """The text of the value with this skeleton and these codes; its pieces are passed, too."""
-        if pieces is None:
-            return value_text(built(skeleton, codes, self.points))
+    def told_text(self, pieces, codes):
+        """The text of the value with these pieces, all of its text, and these codes."""
         names = self.named(codes)
         return "".join([piece if isinstance(piece, str) else names[piece] for piece in pieces])
 
@@ -88,9 +94,9 @@ def first_of_slices(points, table, slices):
     namer, best = Namer(points), None
     for key, many in slices:
         skeleton = table[key]
-        pieces = text_pieces(skeleton)
-        for codes in many if pieces is None else namer.narrow(pieces, many):
-            text = namer.told_text(skeleton, pieces, codes)
+        pieces, is_whole = text_pieces(skeleton)
+        for codes in namer.narrow(pieces, many):
+            text = namer.told_text(pieces, codes) if is_whole else value_text(built(skeleton, codes, points))
             if best is None or text < best[0]:
                 best = (text, skeleton, codes)
     return None if best is None else built(best[1], best[2], points)

@@ -3,7 +3,8 @@
 import unittest
 
 from gapwise import (
-    algebra, greater, likeness, making, placing, plainrun, points, products, programtexts, reading, running, samples, sizes, trees, values)
+    algebra, bars, greater, likeness, making, maps, picks, placing, plainrun, points, products, programtexts, reading, rooms, rounds, running, samples,
+    sizes, trees, values, webs)
 from gapwise.errors import LineError, NotThere
 from gapwise.making import LINE, made
 from tests.helping import copy_of, is_same_thing
@@ -18,6 +19,9 @@ PROGRAM = trees.Program((("s", ("set", ("point",))),), (), BLOCK)
 ROWS = (("let", "r", ("set", ("row", ("point",)), ())), ("for", "x", ("name", "s"), (("add", ("row", (("name", "x"),)), "r"),)))
 PLAIN = trees.Program((("s", ("set", ("point",))),), (), (*ROWS, ("let", "p", ("point", TWO))))
 ABOVE_SIZE = sizes.Size(2, [((0, 1), 1)])
+SWAP = made((), [("row", "a", "b"), ("row", "b", "a"), ("row", ZERO, ZERO), ("row", ("row", ZERO), "a")])
+UNLIKE = made((), [("row", ZERO, ONE), ("row", ONE, ZERO)])
+BAR = ("bar", ONE, (0,))
 
 CALLS = [
     (points.make_point, [4, -6]), (points.make_point, [4, 0]), (points.is_before, [ZERO, ONE]), (points.gap_of, [(ZERO, TWO), ONE]),
@@ -48,7 +52,19 @@ CALLS = [
     (ABOVE_SIZE.greatest, []), (ABOVE_SIZE.at_most, [ABOVE_SIZE]), (ABOVE_SIZE.at_most, [sizes.Size(1, [])]), (sizes.size_of, [ABOVE, (ONE,)]),
     (greater.as_great, [LINE, LINE]), (greater.as_great, [LINE, ABOVE]), (greater.into_map, [LINE, RISING, (ZERO,)]), (greater.into_map, [ABOVE, LINE, (ONE,)]),
     (greater.into, [LINE, RISING]), (greater.into, [RISING, LINE]), (greater.order, [LINE, RISING]), (greater.standard, [(ZERO,), ABOVE_SIZE]),
-    (greater.standard, [(), sizes.Size(1, [((4,), 1)])])]
+    (greater.standard, [(), sizes.Size(1, [((4,), 1)])]),
+    (maps.judge_map, [SWAP, LINE, LINE]), (maps.judge_map, [RISING, LINE, LINE]), (maps.value_at, [SWAP, ONE]), (maps.value_at, [SWAP, ABOVE]),
+    (maps.image, [RISING, ABOVE]), (maps.identity, [ABOVE]), (maps.then, [RISING, SWAP]), (maps.back, [RISING]), (maps.one_to_one, [SWAP]), (maps.onto, [SWAP, LINE]),
+    (rounds.power, [SWAP, 3]), (rounds.come_round, [SWAP]), (rounds.track, [SWAP, ("row", ONE)]), (rounds.track, [SWAP, ABOVE]), (rounds.heart, [SWAP]),
+    (rounds.lengths, [SWAP]), (rounds.levels, [SWAP]), (rounds.fixed, [SWAP]),
+    (bars.intervals, [(ZERO,), ("row", ONE, TWO)]), (bars.fitting, [UNLIKE, ONE, (0,)]), (bars.bars, [RISING]), (bars.pickable, [UNLIKE]), (bars.barred_at, [RISING, BAR, (THREE,)]),
+    (picks.enough, [UNLIKE, (ZERO,)]), (picks.plenty, [UNLIKE]), (picks.pick, [UNLIKE]), (picks.pick, [RISING]), (picks.judge_pick, [RISING, BAR]),
+    (picks.judge_pick, [RISING, ["bar", ONE, [0]]]), (picks.judge_pick, [RISING, ("points", [ZERO])]), (picks.picked, [UNLIKE, (ZERO, ONE)]), (picks.picked, [UNLIKE, (ZERO,)]),
+    (webs.places, [RISING]), (webs.reached, [RISING, ONE]), (webs.fewest_steps, [RISING, ZERO, ONE]), (webs.path, [RISING, ZERO, ONE]), (webs.path, [RISING, ONE, ZERO]),
+    (webs.closure, [RISING]), (webs.at_steps, [RISING, 1]), (webs.farthest, [RISING]), (webs.judge_path, [RISING, ZERO, ONE, ("path", (ZERO, ONE))]),
+    (webs.judge_path, [RISING, ZERO, ONE, ["path", [ZERO, {"a": [1]}]]]), (webs.judge_path, [RISING, ZERO, ONE, ("closed", ABOVE)]),
+    (rooms.both_ways, [RISING]), (rooms.room_of, [RISING, ONE]), (rooms.room_of, [RISING, [1, [1]]]), (rooms.room_of, [RISING, {"a": [1]}]), (rooms.rooms, [RISING]),
+    (rooms.linked, [RISING, ONE, ZERO])]
 
 
 def lists_in(thing):
@@ -106,7 +122,8 @@ class Arguments(unittest.TestCase):
         kinds = {points.spread: list, making.orbits: list, algebra.orbit_sets: list, running.run: dict, making.made: tuple, placing.shape: tuple, values.support: tuple,
                  likeness.alike_moves: tuple, algebra.joined_points: tuple, running.run_count: int, products.many_pairs: int, running.is_told: bool, making.is_in: bool,
                  trees.is_kind: bool, trees.is_of: bool, algebra.is_within: bool, placing.are_alike: bool, points.is_before: bool, values.value_text: str, plainrun.is_plain: bool, plainrun.plain_run: dict, samples.members_on: list,
-                 samples.count: int, programtexts.program_text: str, greater.as_great: tuple, greater.into: tuple, greater.into_map: tuple, greater.order: int}
+                 samples.count: int, programtexts.program_text: str, greater.as_great: tuple, greater.into: tuple, greater.into_map: tuple, greater.order: int, rounds.lengths: list, rounds.levels: list,
+                 rounds.come_round: tuple, rounds.track: tuple, bars.bars: list, bars.intervals: tuple, picks.plenty: tuple, picks.pick: tuple, webs.path: tuple, webs.farthest: int}
         for function, parts in CALLS:
             told = told_by(function, parts)
             if function in kinds and not isinstance(told, Exception):
@@ -119,7 +136,10 @@ class Arguments(unittest.TestCase):
             algebra: "joined_points join both less is_within outside orbit_sets all_of", products: "merges many_pairs pairs firsts seconds",
             likeness: "alike_moves", trees: "is_kind is_of Program", running: "run run_count is_told",
             plainrun: "is_plain plain_run", programtexts: "moved_program renamed_program program_text read_program", samples: "members_on count",
-            sizes: "Size size_of", greater: "as_great into_map into order standard"}
+            sizes: "Size size_of", greater: "as_great into_map into order standard",
+            maps: "judge_map value_at image identity then back one_to_one onto", rounds: "power come_round track heart lengths levels fixed",
+            bars: "intervals fitting bars pickable barred_at", picks: "enough plenty pick judge_pick picked",
+            webs: "places reached fewest_steps path closure at_steps farthest judge_path", rooms: "both_ways room_of rooms linked"}
         for module, names in listed.items():
             for name in names.split():
                 self.assertEqual(getattr(module, name).__module__, module.__name__, name)

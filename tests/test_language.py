@@ -2,6 +2,7 @@
 
 import ast
 import builtins
+import functools
 import os
 import re
 import unittest
@@ -44,6 +45,7 @@ def source(name):
         return held.read()
 
 
+@functools.lru_cache
 def trees():
     return {name: ast.parse(source(name)) for name in files()}
 
