@@ -4,14 +4,14 @@ from math import comb
 
 from gapwise.algebra import joined_points
 from gapwise.codes import filled
-from gapwise.errors import BadSize, TooMany
+from gapwise.errors import BadSize
 from gapwise.families import opened, refined_count
 from gapwise.making import made, orbits
+from gapwise.mixing import MOST, check_many
 from gapwise.placing import shape
 from gapwise.points import merged_points
 from gapwise.sizes import size_of
 
-MOST = 600
 LETTERS = "abcdefghijklmnopqrstuvwxyz"
 
 
@@ -20,17 +20,12 @@ def as_great(one, other):
     points = joined_points(one, other)
     more = size_of(one, points) - size_of(other, points)
     if not more.terms:
-        check_orbits(one, points)
+        check_many(refined_count(opened(one), points), MOST)
         rows, _ = matched(one, other, points)
         return ("same", made(points, rows))
     # With fewer points than any shape has, and with just a least shape's, no other term tells anything.
     _, least = min([(sum(counts), counts) for counts, _ in more.terms])
     return ("sample", merged_points(points, filled(points, least)))
-
-
-def check_orbits(many, points):
-    if refined_count(opened(many), points) > MOST:
-        raise TooMany()
 
 
 def matched(one, other, points):
@@ -53,7 +48,7 @@ def matched(one, other, points):
 def into_map(one, other, points):
     """Rows that lead one into other by points, or a shape that too many of one's orbits have."""
     together = merged_points(joined_points(one, other), points)
-    check_orbits(one, together)
+    check_many(refined_count(opened(one), together), MOST)
     rows, lacking = matched(one, other, together)
     return ("map", made(together, rows)) if lacking is None else ("more", lacking)
 
@@ -107,8 +102,7 @@ def standard(points, size):
         if number < 0 or sum(counts) > 3:
             raise BadSize()
         total += number
-    if total > MOST:
-        raise TooMany()
+    check_many(total, MOST)
     rows = []
     for counts, number in size.terms:
         for _ in range(number):

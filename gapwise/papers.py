@@ -16,7 +16,7 @@ def is_value(value):
 
 def is_set_value(value):
     """Whether any value is a set."""
-    return is_value(value) and not isinstance(value, str) and is_set(value)
+    return is_value(value) and is_set(value)
 
 
 def are_values(value):

@@ -2,19 +2,18 @@
 
 from gapwise.bars import bars, fitting, intervals
 from gapwise.codes import filled, passage
-from gapwise.errors import NotEnough, TooMany
+from gapwise.errors import NotEnough
 from gapwise.families import keyed, opened, refined_count
 from gapwise.further import Spots
 from gapwise.lettering import first_of_slices
 from gapwise.making import is_in, made, orbits
+from gapwise.mixing import MOST, check_many
 from gapwise.papers import is_value
 from gapwise.placing import led
 from gapwise.points import code_of, is_number, merged_points
 from gapwise.products import firsts
 from gapwise.reading import are_points
 from gapwise.values import support
-
-MOST = 600
 
 
 def enough(R, points):
@@ -109,8 +108,7 @@ def is_bar_paper(value, gaps):
 def picked(R, points):
     """A map in which each first of the set stands first in one of its rows, over its points and further ones."""
     together = merged_points(R[1], points)
-    if refined_count(opened(firsts(R)), together) > MOST:
-        raise TooMany()
+    check_many(refined_count(opened(firsts(R)), together), MOST)
     lacking = enough(R, points)
     if lacking is not None:
         raise NotEnough(lacking)

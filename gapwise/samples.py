@@ -4,20 +4,18 @@ from itertools import combinations
 from math import comb
 
 from gapwise.codes import gap_counts
-from gapwise.errors import BadSample, TooMany
+from gapwise.errors import BadSample
 from gapwise.families import opened
+from gapwise.mixing import MOST, check_many
 from gapwise.placing import led
 from gapwise.points import code_of
 from gapwise.reading import are_points
 from gapwise.values import value_text
 
-MOST = 600
-
 
 def members_on(many, sample):
     """The list of the set's members whose support lies in the sample, ascending by their texts."""
-    if count(many, sample) > MOST:
-        raise TooMany()
+    check_many(count(many, sample), MOST)
     return all_on(many, sample)
 
 

@@ -7,7 +7,7 @@ def is_word(value):
     """Whether any value is a word."""
     if not isinstance(value, str) or not 1 <= len(value) <= 8:
         return False
-    return all(["a" <= letter <= "z" for letter in value])
+    return value.isascii() and value.isalpha() and value.islower()
 
 
 def is_set(value):

@@ -7,6 +7,7 @@ from gapwise.programtexts import moved_program, program_text, read_program, rena
 from gapwise.running import run
 from gapwise.trees import Program
 from gapwise.values import support
+from tests.grammar import good_length
 from tests.helping import ascending, is_same_thing, seeded
 from tests.plainly import Maker, points_in
 from tests.test_running import HALF, LINE_E, ONE, PAIR, POINT, POINTS, THREE, TRUE, TWO, WORD, X, Y, ZERO, empty, let, loop, point, when
@@ -230,6 +231,28 @@ class BadTexts(unittest.TestCase):
         self.assertEqual(self.place("[[a " + "(set " * 20 + "x" + "(set " * 50), 4 + 5 * 20)
         with self.assertRaises(BadProgram):
             read_program("[[a " + "(set " * 37 + "(word)" + ")" * 37 + "]] [] []")
+
+    def test_against_rules(self):
+        chance, right = seeded(95), 0
+        texts = ["[] [] [" + part + "]" for _, part in PARTS]
+        texts += [program_text(Maker(chance).program()[0]) for _ in range(12)]
+        texts.append("[[p (point)] [s (set (row (word) (point)))]] [[f [[x (point)]] (row [(name x) (point -10/21)])] [g [] (call f [(point 0)])]] []")
+        for _ in range(1500):
+            text = chance.choice(texts)
+            at, far = chance.randrange(len(text)), chance.choice([0, 0, 1, 1, 2, 5, 1000])
+            bent = text[:at] + "".join(chance.choice("()[] -/01239abclpinoset") for _ in range(chance.choice([0, 1, 1, 2]))) + text[at + far:]
+            place, whole = good_length(bent)
+            if whole:
+                right += 1
+                try:
+                    read_program(bent)
+                except BadText as error:
+                    self.fail((bent, error.place))
+                except (LineError, LookupError):
+                    pass
+            else:
+                self.assertEqual(self.place(bent), place, bent)
+        self.assertGreater(right, 50)
 
     def test_then_what_program_raises(self):
         def error(text):
