@@ -58,11 +58,10 @@ class Size:
         """The list of the terms whose shape lies below no other term's shape, ascending."""
         tops = []
         # A shape below some other one lies below one that is met ahead of it here.
-        for _, shape in sorted([(-sum(shape), shape) for shape, _ in self.terms]):
-            if not any([lies_below(shape, top) for top in tops]):
-                tops.append(shape)
-        known = {shape: number for shape, number in self.terms}
-        return [(shape, known[shape]) for shape in sorted(tops)]
+        for _, counts in sorted([(-sum(shape), shape) for shape, _ in self.terms]):
+            if not any([lies_below(counts, top) for top in tops]):
+                tops.append(counts)
+        return [(shape, number) for shape, number in self.terms if shape in tops]
 
     def at_most(self, other):
         """Whether the size is at most other, far out in all gaps."""
