@@ -120,6 +120,22 @@ class Bars(unittest.TestCase):
         self.assertGreater(barred, 60)
         self.assertLess(barred, 220)
 
+    def test_barred_at_over_three_points(self):
+        points, done = (ZERO, ONE, TWO), 0
+        for own in ((-1, 1), HALF, (3, 2), THREE):
+            for held in points:
+                x = ("row", held, own)
+                for far in ((-2, 1), (1, 3), (5, 4), (5, 1)):
+                    R = made(points, [("row", x, ("row", far, held)), *[("row", "a", ("row", at, far)) for at in points]])
+                    self.assertEqual(R[1], points)
+                    done += len(bars(R))
+                    for bar in bars(R):
+                        beside = ((-9, 1), ZERO, (1, 4), (3, 4), (6, 5), (9, 5), (7, 1))
+                        found = barred_at(R, bar, beside)
+                        self.assertTrue(are_alike(points, found, bar[1]))
+                        self.assertEqual(ys_for(R, found, merged_points(merged_points(points, beside), support(found))), [])
+        self.assertGreater(done, 10)
+
     def test_barred_at(self):
         chance = seeded(152)
         done = 0

@@ -85,6 +85,10 @@ class IsPlain(unittest.TestCase):
                           ("same", LINE_E, LINE_E), ("not", ("some", "y", LINE_E, TRUE)), ("and", TRUE, ("within", LINE_E, LINE_E)), ("or", ("in", X, LINE_E), TRUE)):
             self.assertFalse(self.is_plain(SINGLES, loop("x", when(condition, add(X)))), condition)
         self.assertFalse(self.is_plain(SINGLES, loop("x", when(TRUE, add(point(1))))))
+        # Of a flat kind, but no flat expression.
+        bent = ("item", 0, row(X, LINE_E))
+        for condition in (("same", bent, X), ("same", X, bent), ("before", bent, X), ("before", X, bent), ("in", bent, S)):
+            self.assertFalse(self.is_plain(SINGLES, loop("x", when(condition, add(X))), inputs=(("s", POINTS),)), condition)
 
 
 class PlainRun(unittest.TestCase):
