@@ -3,12 +3,12 @@
 from gapwise.algebra import joined_points, outside
 from gapwise.composing import composed
 from gapwise.errors import NoMember
-from gapwise.families import least
-from gapwise.mixing import MOST, check_many
+from gapwise.families import least, opened
+from gapwise.mixing import MOST
 from gapwise.placing import by_texts, led, placed
 from gapwise.points import between, merged_points
 from gapwise.products import firsts, seconds
-from gapwise.relating import Inside, Ties, alike_row, is_pair, led_row
+from gapwise.relating import alike_row, beside, is_pair, led_row
 from gapwise.values import support, value_text
 
 
@@ -67,14 +67,7 @@ def value_at(mapping, value):
 
 def image(pairs, many):
     """The set of all seconds of those pairs whose first is a member."""
-    points = joined_points(pairs, many)
-    inside, ties, found = Inside(many, points), Ties(pairs, points), {}
-    for key, first, second in ties.orbits:
-        one, other = ties.halves[key[0]]
-        if second not in found and inside.has(first, one.skeleton):
-            found[second] = other.skeleton
-            check_many(len(found), MOST)
-    return least(points, found).plain()
+    return beside(pairs, 1, opened(many), MOST).plain()
 
 
 def identity(many):

@@ -31,12 +31,25 @@ class Net:
         """The value that stands for an orbit of places."""
         return built(self.skeletons[key], key[1], self.points)
 
+    def row_of(self, row_key):
+        """The row that stands for an orbit of ties."""
+        text, codes = row_key
+        return built(self.ties.skeletons[text], codes, self.points)
+
+    def walk_along(self, start, row_keys):
+        """A walk that begins with a value of an orbit, along ties of which each begins where the last one ends."""
+        walk = [start]
+        for row_key in row_keys:
+            walk.append(led_row(self.row_of(row_key), 1, walk[-1], self.points)[2])
+        return tuple(walk)
+
 
 class Search:
     """How walks from a value lead to orbits, the nearest ones first.
 
-    steps has the fewest steps to each orbit that is reached, lasts the last tie of such a walk. again has the orbits to
-    which a walk of one step or more leads.
+    steps has the fewest steps to each orbit that is reached, the nearest ones first, lasts the last tie of such a walk.
+    again has the orbits to which a walk of one step or more leads, closing the last tie of a shortest one of these back
+    to the value itself, None if there is none.
     """
 
     def __init__(self, net, start, skeleton):
@@ -46,12 +59,15 @@ class Search:
         self.steps = {start: 0}
         self.lasts = {}
         self.again = {}
+        self.closing = None
         level = [start]
         while level:
             further = []
             for first in level:
                 for second, row_key in net.onward.get(first, []):
                     self.again[second] = True
+                    if second == start and self.closing is None:
+                        self.closing = row_key
                     if second not in self.steps:
                         self.steps[second] = self.steps[first] + 1
                         self.lasts[second] = row_key
@@ -75,7 +91,18 @@ class Search:
         key, _ = keyed(y, points)
         while self.steps[key] > 0:
             text, codes = self.lasts[key]
-            row = built(ties.skeletons[text], codes, points)
-            walk.append(led_row(row, 2, walk[-1], points)[1])
+            walk.append(led_row(self.net.row_of((text, codes)), 2, walk[-1], points)[1])
             key = ties.halves[text][0].key(codes)
         return tuple(walk[::-1])
+
+    def ring(self):
+        """The values of a shortest walk back to the value, if there is one, each once."""
+        return self.walk_to(self.net.row_of(self.closing)[1])
+
+    def level_tie(self):
+        """The nearest tie between two values that are as many steps away, None if there is none."""
+        for first in self.steps:
+            for second, row_key in self.net.onward.get(first, []):
+                if self.steps[first] == self.steps[second]:
+                    return row_key
+        return None

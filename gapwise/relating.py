@@ -1,8 +1,9 @@
 """Rows of two: the keys of their two parts, and rows led so that one part becomes a value."""
 
 from gapwise.codes import passage
-from gapwise.families import built, opened
+from gapwise.families import built, least, opened
 from gapwise.making import is_in
+from gapwise.mixing import check_many
 from gapwise.placing import placed, replaced
 from gapwise.points import merged_points
 from gapwise.values import is_row, support, value_text
@@ -67,11 +68,11 @@ def led_row(row, at, value, points):
 
 
 class Inside:
-    """Tells of keys over points, among which the set's points are, whether they are of members."""
+    """Tells of keys over points, among which the family's points are, whether they are of members."""
 
-    def __init__(self, many, points):
-        self.family = opened(many)
-        self.way = passage(points, many[1])
+    def __init__(self, family, points):
+        self.family = family
+        self.way = passage(points, family.points)
         self.known = {}
 
     def has(self, key, skeleton):
@@ -85,15 +86,35 @@ def is_tied(web, one, other):
     return is_in(("row", one, other), web)
 
 
-def leading_out(web, many):
-    """The two values of a tie that leads out of a set, None if there is none."""
-    points = merged_points(web[1], many[1])
-    inside = Inside(many, points)
+def tie_between(web, one, has_first, other, has_second):
+    """The two values of a tie of a web, None if there is none such.
+
+    Its first value is a member of the family one, or is none, as has_first tells; so for the second one and other.
+    """
+    points = merged_points(web[1], merged_points(one.points, other.points))
+    firsts, seconds = Inside(one, points), Inside(other, points)
     for row in web[2]:
         ties = Ties(("set", web[1], (row,)), points)
         for key, first, second in ties.orbits:
-            one, other = ties.halves[key[0]]
-            if inside.has(first, one.skeleton) and not inside.has(second, other.skeleton):
-                led = built(ties.skeletons[key[0]], key[1], points)
-                return led[1], led[2]
+            half, further = ties.halves[key[0]]
+            if (firsts.has(first, half.skeleton) == has_first
+                    and seconds.has(second, further.skeleton) == has_second):
+                tie = built(ties.skeletons[key[0]], key[1], points)
+                return tie[1], tie[2]
     return None
+
+
+def beside(pairs, at, family, most):
+    """The family of what stands in a row of two beside a member of a family, which is the row's part number at.
+
+    Most is the greatest number of orbits told.
+    """
+    points = merged_points(pairs[1], family.points)
+    inside, ties, found = Inside(family, points), Ties(pairs, points), {}
+    for key, *parts in ties.orbits:
+        halves = ties.halves[key[0]]
+        part = parts[2 - at]
+        if part not in found and inside.has(parts[at - 1], halves[at - 1].skeleton):
+            found[part] = halves[2 - at].skeleton
+            check_many(len(found), most)
+    return least(points, found)

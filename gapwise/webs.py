@@ -1,10 +1,11 @@
 """Webs: sets of ties, and the walks through them."""
 
+from gapwise.families import opened
 from gapwise.making import is_in, made, orbits
 from gapwise.nets import Net
 from gapwise.papers import are_values, is_paper, is_set_value
 from gapwise.points import merged_points
-from gapwise.relating import is_tied, leading_out
+from gapwise.relating import is_tied, tie_between
 from gapwise.values import support
 
 
@@ -36,20 +37,30 @@ def path(web, x, y):
     return ("path", search.walk_to(y))
 
 
-def searches(web):
-    """The list of pairs of a value, for each orbit of places, and all walks from it."""
+def nets_of(web):
+    """The list of pairs of a value, for each orbit of places, and the net over the web's points and its own."""
     nets, found = {}, []
     for x in orbits(places(web), web[1]):
         points = merged_points(web[1], support(x))
         if points not in nets:
             nets[points] = Net(web, points)
-        found.append((x, nets[points].search(x)))
+        found.append((x, nets[points]))
     return found
+
+
+def searches(web):
+    """The list of pairs of a value, for each orbit of places, and all walks from it."""
+    return [(x, net.search(x)) for x, net in nets_of(web)]
 
 
 def closure(web):
     """The set of all rows of two values such that a walk of one step or more leads from the one to the other."""
-    return made(web[1], [("row", x, search.net.value_of(key)) for x, search in searches(web) for key in search.again])
+    return closure_of(web, searches(web))
+
+
+def closure_of(web, found):
+    """The closure of a web, of which all walks are found."""
+    return made(web[1], [("row", x, search.net.value_of(key)) for x, search in found for key in search.again])
 
 
 def at_steps(web, n):
@@ -90,5 +101,6 @@ def closed_fault(web, x, y, many):
         return ("lacks",)
     if is_in(y, many):
         return ("holds",)
-    leading = leading_out(web, many)
+    inside = opened(many)
+    leading = tie_between(web, inside, True, inside, False)
     return None if leading is None else ("leads", *leading)

@@ -2,10 +2,12 @@
 
 from itertools import combinations
 
-from gapwise.making import made, orbits
+from gapwise.making import is_in, made, orbits
 from gapwise.placing import led, placed, shape
 from gapwise.points import merged_points, spread
+from gapwise.products import pairs
 from gapwise.values import support, value_text
+from gapwise.webs import places
 from tests.helping import HALVES, some_points
 
 ZERO, HALF, ONE, TWO, THREE = (0, 1), (1, 2), (1, 1), (2, 1), (3, 1)
@@ -78,3 +80,28 @@ def some_map(chance, points, values):
 def some_set_of_parts(chance, most_points, many, most=2):
     points = some_points(chance, chance.choice(range(most_points + 1)))
     return points, [some_part(chance, most) for _ in range(many)]
+
+
+def only(value):
+    """The set of this value alone."""
+    return made(support(value), [value])
+
+
+def some_web(chance):
+    """A web as callers may pass it, small."""
+    if chance.random() < 0.5:
+        points, most = some_points(chance, chance.choice([0, 1])), 2
+    else:
+        points, most = some_points(chance, chance.choice([1, 2, 3])), 1
+    parts = [some_part(chance, most) for _ in range(chance.choice([2, 3, 4]))]
+    web = made(points, [("row", chance.choice(parts), chance.choice(parts)) for _ in range(chance.choice([1, 2, 3, 4]))])
+    while len(web[2]) > 40 or len(orbits(pairs(places(web), places(web)), web[1])) > 600:
+        web = made(points, web[2][:2])
+    return web
+
+
+def some_values(chance, web, many):
+    """Values with at most two points beside the web's, mostly places."""
+    held = values_on([part for row in web[2] for part in row[1:]], further(web[1], 2))
+    held = [value for value in held if is_in(value, places(web))] or ["a"]
+    return [chance.choice([chance.choice(held), chance.choice(held), some_part(chance, 2)]) for _ in range(many)]

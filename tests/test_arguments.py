@@ -3,8 +3,8 @@
 import unittest
 
 from gapwise import (
-    algebra, bars, greater, likeness, making, maps, picks, placing, plainrun, points, products, programtexts, reading, rooms, rounds, running, samples,
-    sizes, trees, values, webs)
+    algebra, bars, greater, least, likeness, machines, making, maps, picks, placing, plainrun, points, products, programtexts, reading, rings, rooms, rounds,
+    rules, running, samples, sizes, trees, values, webs, words)
 from gapwise.errors import LineError, NotThere
 from gapwise.making import LINE, made
 from tests.helping import copy_of, is_same_thing
@@ -22,6 +22,11 @@ ABOVE_SIZE = sizes.Size(2, [((0, 1), 1)])
 SWAP = made((), [("row", "a", "b"), ("row", "b", "a"), ("row", ZERO, ZERO), ("row", ("row", ZERO), "a")])
 UNLIKE = made((), [("row", ZERO, ONE), ("row", ONE, ZERO)])
 BAR = ("bar", ONE, (0,))
+DOWN = made((), [("row", ZERO, "a"), ("row", "a", "b")])
+EVEN = (made((), ["a"]), made((), ["e", "o"]), "e", made((), [("row", "e", "a", "o"), ("row", "o", "a", "e")]), made((), ["e"]))
+ODD = machines.other_machine(EVEN)
+NAMES = made((), [("row", "a", "z")])
+FAR = ((("far", ("x", "y")), (("next", ("x", "y")),), ()),)
 
 CALLS = [
     (points.make_point, [4, -6]), (points.make_point, [4, 0]), (points.is_before, [ZERO, ONE]), (points.gap_of, [(ZERO, TWO), ONE]),
@@ -64,7 +69,17 @@ CALLS = [
     (webs.closure, [RISING]), (webs.at_steps, [RISING, 1]), (webs.farthest, [RISING]), (webs.judge_path, [RISING, ZERO, ONE, ("path", (ZERO, ONE))]),
     (webs.judge_path, [RISING, ZERO, ONE, ["path", [ZERO, {"a": [1]}]]]), (webs.judge_path, [RISING, ZERO, ONE, ("closed", ABOVE)]),
     (rooms.both_ways, [RISING]), (rooms.room_of, [RISING, ONE]), (rooms.room_of, [RISING, [1, [1]]]), (rooms.room_of, [RISING, {"a": [1]}]), (rooms.rooms, [RISING]),
-    (rooms.linked, [RISING, ONE, ZERO])]
+    (rooms.linked, [RISING, ONE, ZERO]),
+    (rings.ring, [RISING]), (rings.ring, [SWAP]), (rings.judge_ring, [RISING, ("ring", (ZERO, ONE))]), (rings.judge_ring, [RISING, ["ring", [ZERO, {"a": [1]}]]]), (rings.judge_ring, [RISING, ("none", RISING)]),
+    (rings.heights, [DOWN]), (rings.heights, [RISING]), (rings.heights, [making.EMPTY]), (rings.judge_heights, [DOWN, ("heights", [made((), ["b"]), made((), ["a"]), LINE])]),
+    (rings.judge_heights, [DOWN, ("heights", [made((), ["b"])])]), (rings.judge_heights, [DOWN, ("endless", [ZERO, [1, 1]])]), (rings.odd_ring, [DOWN]), (rings.odd_ring, [RISING]),
+    (rings.judge_odd, [DOWN, ("sides", LINE)]), (rings.judge_odd, [DOWN, ["sides", [LINE]]]),
+    (machines.judge_machine, [EVEN]), (machines.run_word, [EVEN, ["a", "a"]]), (machines.run_word, [EVEN, ("a",)]), (machines.run_word, [EVEN, ["a", "b"]]), (machines.takes, [EVEN, ["a"]]),
+    (machines.other_machine, [EVEN]), (machines.turned_machine, [EVEN, NAMES]), (machines.moved_machine, [EVEN, MOVE]), (machines.moved_machine, [(*EVEN[:2], ("row", TWO), *EVEN[3:]), MOVE]),
+    (words.reached, [EVEN]), (words.word_to, [EVEN, "o"]), (words.word_to, [EVEN, "z"]), (words.first_word, [ODD]), (words.alike_machines, [EVEN, EVEN]), (words.alike_machines, [EVEN, ODD]),
+    (words.judge_alike, [EVEN, ODD, ("word", ())]), (words.judge_alike, [EVEN, EVEN, words.alike_machines(EVEN, EVEN)]), (words.both_machines, [EVEN, ODD]), (words.either_machine, [EVEN, ODD]),
+    (least.least_machine, [EVEN]), (least.lead, [EVEN]), (least.matched, [EVEN, EVEN]), (least.matched, [EVEN, ODD]),
+    (rules.check_rules, [FAR]), (rules.check_rules, [[FAR[0]]]), (rules.check_rules, [(FAR[0], ["far", [{"a": [1]}]])])]
 
 
 def lists_in(thing):
@@ -123,7 +138,8 @@ class Arguments(unittest.TestCase):
                  likeness.alike_moves: tuple, algebra.joined_points: tuple, running.run_count: int, products.many_pairs: int, running.is_told: bool, making.is_in: bool,
                  trees.is_kind: bool, trees.is_of: bool, algebra.is_within: bool, placing.are_alike: bool, points.is_before: bool, values.value_text: str, plainrun.is_plain: bool, plainrun.plain_run: dict, samples.members_on: list,
                  samples.count: int, programtexts.program_text: str, greater.as_great: tuple, greater.into: tuple, greater.into_map: tuple, greater.order: int, rounds.lengths: list, rounds.levels: list,
-                 rounds.come_round: tuple, rounds.track: tuple, bars.bars: list, bars.intervals: tuple, picks.plenty: tuple, picks.pick: tuple, webs.path: tuple, webs.farthest: int}
+                 rounds.come_round: tuple, rounds.track: tuple, bars.bars: list, bars.intervals: tuple, picks.plenty: tuple, picks.pick: tuple, webs.path: tuple, webs.farthest: int, rings.ring: tuple, rings.heights: tuple, rings.odd_ring: tuple, machines.run_word: tuple, machines.takes: bool,
+                 machines.other_machine: tuple, machines.turned_machine: tuple, machines.moved_machine: tuple, words.alike_machines: tuple, words.both_machines: tuple, least.least_machine: tuple}
         for function, parts in CALLS:
             told = told_by(function, parts)
             if function in kinds and not isinstance(told, Exception):
@@ -139,7 +155,9 @@ class Arguments(unittest.TestCase):
             sizes: "Size size_of", greater: "as_great into_map into order standard",
             maps: "judge_map value_at image identity then back one_to_one onto", rounds: "power come_round track heart lengths levels fixed",
             bars: "intervals fitting bars pickable barred_at", picks: "enough plenty pick judge_pick picked",
-            webs: "places reached fewest_steps path closure at_steps farthest judge_path", rooms: "both_ways room_of rooms linked"}
+            webs: "places reached fewest_steps path closure at_steps farthest judge_path", rooms: "both_ways room_of rooms linked",
+            rings: "ring judge_ring heights judge_heights odd_ring judge_odd", machines: "judge_machine run_word takes other_machine turned_machine moved_machine",
+            words: "reached word_to first_word alike_machines judge_alike both_machines either_machine", least: "least_machine lead matched", rules: "check_rules"}
         for module, names in listed.items():
             for name in names.split():
                 self.assertEqual(getattr(module, name).__module__, module.__name__, name)

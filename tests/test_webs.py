@@ -12,37 +12,12 @@ from gapwise.rooms import both_ways, linked, room_of, rooms
 from gapwise.values import support
 from gapwise.webs import at_steps, closure, farthest, fewest_steps, judge_path, path, places, reached
 from tests.helping import ascending, seeded, some_points
-from tests.relations import HALF, ONE, THREE, TWO, ZERO, further, some_part, values_on
+from tests.relations import HALF, ONE, THREE, TWO, ZERO, only, some_values, some_web
 
 LESS = made((), [("row", ZERO, ONE)])
 DOWN = made((), [("row", ZERO, "a"), ("row", "a", "b")])
 NEAR = made((ZERO,), [("row", ONE, TWO), ("row", (-2, 1), (-1, 1))])
 LETTERS = "abcdefghijklmnopqrstuvwxyz"
-
-
-def only(value):
-    """The set of this value alone."""
-    return made(support(value), [value])
-
-
-def some_web(chance):
-    """A web as callers may pass it, small."""
-    if chance.random() < 0.5:
-        points, most = some_points(chance, chance.choice([0, 1])), 2
-    else:
-        points, most = some_points(chance, chance.choice([1, 2, 3])), 1
-    parts = [some_part(chance, most) for _ in range(chance.choice([2, 3, 4]))]
-    web = made(points, [("row", chance.choice(parts), chance.choice(parts)) for _ in range(chance.choice([1, 2, 3, 4]))])
-    while len(web[2]) > 40 or len(orbits(pairs(places(web), places(web)), web[1])) > 600:
-        web = made(points, web[2][:2])
-    return web
-
-
-def some_values(chance, web, many):
-    """Values with at most two points beside the web's, mostly places."""
-    held = values_on([part for row in web[2] for part in row[1:]], further(web[1], 2))
-    held = [value for value in held if is_in(value, places(web))] or ["a"]
-    return [chance.choice([chance.choice(held), chance.choice(held), some_part(chance, 2)]) for _ in range(many)]
 
 
 def reached_by_images(web, x):
