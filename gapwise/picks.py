@@ -112,6 +112,11 @@ def picked(R, points):
     lacking = enough(R, points)
     if lacking is not None:
         raise NotEnough(lacking)
+    return picked_map(R, together)
+
+
+def picked_map(R, together):
+    """What picked tells, however many orbits it has; together has the set's points and enough further ones."""
     spots = Spots(R)
     return made(together, [picked_row(spots, x, together) for x in orbits(firsts(R), together)])
 
