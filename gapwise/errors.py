@@ -5,14 +5,36 @@ Each one is given a plain message, so that it keeps no list or dict that it name
 
 
 def copied(value):
-    """The value with all lists and dicts in it made anew."""
-    if isinstance(value, list):
-        return [copied(part) for part in value]
-    if isinstance(value, tuple):
-        return tuple([copied(part) for part in value])
+    """The value with all lists and dicts in it made anew, however deep they stand."""
+    frames = [(value, parts_in(value), [])]
+    while True:
+        whole, parts, found = frames[-1]
+        if len(found) < len(parts):
+            part = parts[len(found)]
+            frames.append((part, parts_in(part), []))
+        else:
+            frames.pop()
+            made = put_together(whole, found)
+            if not frames:
+                return made
+            frames[-1][2].append(made)
+
+
+def parts_in(value):
+    """The list of the parts of a list, a tuple or a dict; none of any other value."""
     if isinstance(value, dict):
-        return {key: copied(value[key]) for key in value}
-    return value
+        return [value[key] for key in value]
+    return list(value) if isinstance(value, (list, tuple)) else []
+
+
+def put_together(whole, parts):
+    """The value made anew of its parts."""
+    if isinstance(whole, dict):
+        names = list(whole)
+        return {names[at]: parts[at] for at in range(len(parts))}
+    if isinstance(whole, tuple):
+        return tuple(parts)
+    return parts if isinstance(whole, list) else whole
 
 
 class LineError(ValueError):

@@ -114,15 +114,16 @@ def tree_of(rules, given, name, row):
     waiting = [(name, row)]
     # Trees may be deeper than Python lets calls stand within one another.
     while waiting:
-        key = (waiting[-1][0], value_text(waiting[-1][1]))
+        one, held = waiting[-1]
+        key = (one, value_text(held))
         if key not in behind:
-            behind[key] = facts_behind(growth, *waiting[-1])
-        keys = [(one, value_text(held)) for one, held in behind[key]]
+            behind[key] = facts_behind(growth, one, held)
+        keys = [(word, value_text(fact_row)) for word, fact_row in behind[key]]
         lacking = [behind[key][at] for at in range(len(keys)) if keys[at] not in done]
         if lacking:
             waiting.extend(lacking)
         else:
-            one, held = waiting.pop()
+            waiting.pop()
             fact = growth.fact_of(one, held)
             number = None if fact.made_by is None else fact.made_by[0]
             done[key] = (one, held, number, tuple([done[other] for other in keys]))

@@ -21,9 +21,9 @@ class Fact:
 
 
 class Trace:
-    """How a line came about: a fact for an atom, put to what came about ahead of it, by a stage as a line of all columns.
+    """How a line came about: a fact for an atom, put to what came about ahead of it by a stage.
 
-    For the first atom of a plan ahead is None.
+    whole is the line of all the stage's columns. For the first atom of a plan ahead, stage and whole are None.
     """
 
     def __init__(self, ahead, at, fact, stage, whole):

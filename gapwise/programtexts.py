@@ -91,8 +91,8 @@ def read_program(text):
     functions = reader.read_thing("functions")
     reader.need(" ")
     block = reader.read_thing("block")
-    if reader.place < len(text):
-        raise BadText(reader.place)
+    if reader.spot < len(text):
+        raise BadText(reader.spot)
     return Program(inputs, functions, block)
 
 
@@ -109,12 +109,12 @@ class ProgramReader(Reader):
     """Reads the things of a program; it counts the brackets that are open."""
 
     def __init__(self, text):
-        Reader.__init__(self, text)
+        super().__init__(text)
         self.brackets = 0
 
     def enter(self, mark):
         if self.brackets == MOST_OPEN:
-            raise BadText(self.place)
+            raise BadText(self.spot)
         self.need(mark)
         self.brackets += 1
 
@@ -176,13 +176,13 @@ class ProgramReader(Reader):
 
     def read_head(self, words):
         """The next word, one of words, none of which begins with another one."""
-        start = self.place
-        while self.text[start:self.place] not in words:
-            begun = self.text[start:self.place + 1]
-            if self.place == len(self.text) or not any([word.startswith(begun) for word in words]):
-                raise BadText(self.place)
-            self.place += 1
-        return self.text[start:self.place]
+        start = self.spot
+        while self.text[start:self.spot] not in words:
+            begun = self.text[start:self.spot + 1]
+            if self.spot == len(self.text) or not any([word.startswith(begun) for word in words]):
+                raise BadText(self.spot)
+            self.spot += 1
+        return self.text[start:self.spot]
 
     def read_thing_or_part(self, sort):
         """The next thing, or the next word, point or number of a row's part."""
@@ -190,11 +190,11 @@ class ProgramReader(Reader):
             return self.read_point()
         if sort == "word":
             if not self.sees("a", "z"):
-                raise BadText(self.place)
+                raise BadText(self.spot)
             return self.read_word()
         if sort != "place":
             return self.read_thing(sort)
         if not self.sees("0", "3"):
-            raise BadText(self.place)
-        self.place += 1
-        return int(self.text[self.place - 1])
+            raise BadText(self.spot)
+        self.spot += 1
+        return int(self.text[self.spot - 1])

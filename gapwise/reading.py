@@ -62,36 +62,36 @@ def read_value(text):
         raise BadText(0)
     reader = Reader(text)
     value = reader.read_part(0)
-    if reader.place < len(text):
-        raise BadText(reader.place)
+    if reader.spot < len(text):
+        raise BadText(reader.spot)
     check_value(value)
     return value
 
 
 class Reader:
-    """Reads a text from its place on, and moves the place behind what it has read.
+    """Reads a text from a spot on, and moves the spot behind what it has read.
 
     It raises BadText with the place of the first character that can't stand there.
     """
 
     def __init__(self, text):
         self.text = text
-        self.place = 0
+        self.spot = 0
 
     def sees(self, low, high):
         """Whether the next character is one from low to high."""
-        return self.place < len(self.text) and low <= self.text[self.place] <= high
+        return self.spot < len(self.text) and low <= self.text[self.spot] <= high
 
     def take(self, mark):
         """Goes on behind the mark if it comes next, and tells whether it does."""
         if not self.sees(mark, mark):
             return False
-        self.place += 1
+        self.spot += 1
         return True
 
     def need(self, mark):
         if not self.take(mark):
-            raise BadText(self.place)
+            raise BadText(self.spot)
 
     def read_part(self, around):
         """The next value, with so many rows and sets around it."""
@@ -104,10 +104,10 @@ class Reader:
         return self.read_point()
 
     def read_word(self):
-        start = self.place
-        while self.sees("a", "z") and self.place < start + LETTERS:
-            self.place += 1
-        return self.text[start:self.place]
+        start = self.spot
+        while self.sees("a", "z") and self.spot < start + LETTERS:
+            self.spot += 1
+        return self.text[start:self.spot]
 
     def read_row(self, around):
         parts = [self.read_part(around)]
@@ -140,16 +140,16 @@ class Reader:
         q = self.read_number("1")
         if q == 1:
             # The figure 1 was right as the beginning of a longer number, so it is what comes next that is wrong.
-            raise BadText(self.place)
+            raise BadText(self.spot)
         return (p, q)
 
     def read_number(self, least):
         """The next number, without leading zeros; its first figure is from least on."""
         if not self.sees(least, "9"):
-            raise BadText(self.place)
-        start = self.place
-        self.place += 1
+            raise BadText(self.spot)
+        start = self.spot
+        self.spot += 1
         if self.text[start] != "0":
-            while self.sees("0", "9") and self.place < start + FIGURES:
-                self.place += 1
-        return int(self.text[start:self.place])
+            while self.sees("0", "9") and self.spot < start + FIGURES:
+                self.spot += 1
+        return int(self.text[start:self.spot])

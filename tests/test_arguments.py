@@ -3,8 +3,8 @@
 import unittest
 
 from gapwise import (
-    algebra, bars, greater, least, likeness, machines, making, maps, picks, placing, plainrun, points, products, programtexts, reading, rings, rooms, rounds,
-    rules, running, samples, sizes, trees, values, webs, words)
+    algebra, bars, console, deeds, facts, games, greater, house, least, likeness, machines, making, maps, picks, placing, plainrun, plans, points, products,
+    programtexts, reading, rings, rooms, rounds, rules, running, samples, sizes, trees, values, webs, words)
 from gapwise.errors import LineError, NotThere
 from gapwise.making import LINE, made
 from tests.helping import copy_of, is_same_thing
@@ -27,6 +27,25 @@ EVEN = (made((), ["a"]), made((), ["e", "o"]), "e", made((), [("row", "e", "a", 
 ODD = machines.other_machine(EVEN)
 NAMES = made((), [("row", "a", "z")])
 FAR = ((("far", ("x", "y")), (("next", ("x", "y")),), ()),)
+TREE = ("far", ("row", ZERO, ONE), 0, (("next", ("row", ZERO, ONE), None, ()),))
+GAME = (made((), ["p", ("row", "q", ZERO), ("row", "w", ZERO)]), made((), ["p", ("row", "q", ZERO)]), made((), [("row", "p", ("row", "q", ZERO)), ("row", ("row", "q", ZERO), ("row", "w", ONE))]), made((), [("row", "w", ZERO)]))
+HIS = (GAME[0], making.EMPTY, *GAME[2:])
+RUN = ("run", (("far", ("set", ("point",))),), (), (("let", "low", ("less", ("line",), ("name", "far"))),))
+
+
+def in_house(word, *parts):
+    """What a call of a house with some deeds tells."""
+    place = house.House()
+    place.tried([("name", "far", ABOVE), ("name", "w", "a"), RUN])
+    place.branch("side")
+    place.do(("drop", "w"))
+    return getattr(place, word)(*parts)
+
+
+def in_console(line):
+    return console.Console().say(line)
+
+
 
 CALLS = [
     (points.make_point, [4, -6]), (points.make_point, [4, 0]), (points.is_before, [ZERO, ONE]), (points.gap_of, [(ZERO, TWO), ONE]),
@@ -79,7 +98,23 @@ CALLS = [
     (words.reached, [EVEN]), (words.word_to, [EVEN, "o"]), (words.word_to, [EVEN, "z"]), (words.first_word, [ODD]), (words.alike_machines, [EVEN, EVEN]), (words.alike_machines, [EVEN, ODD]),
     (words.judge_alike, [EVEN, ODD, ("word", ())]), (words.judge_alike, [EVEN, EVEN, words.alike_machines(EVEN, EVEN)]), (words.both_machines, [EVEN, ODD]), (words.either_machine, [EVEN, ODD]),
     (least.least_machine, [EVEN]), (least.lead, [EVEN]), (least.matched, [EVEN, EVEN]), (least.matched, [EVEN, ODD]),
-    (rules.check_rules, [FAR]), (rules.check_rules, [[FAR[0]]]), (rules.check_rules, [(FAR[0], ["far", [{"a": [1]}]])])]
+    (rules.check_rules, [FAR]), (rules.check_rules, [[FAR[0]]]), (rules.check_rules, [(FAR[0], ["far", [{"a": [1]}]])]),
+    (facts.least_facts, [FAR, {"next": RISING, "q": making.EMPTY}]), (facts.rank_of, [FAR, {"next": RISING}, "far", ("row", ZERO, ONE)]), (facts.tree_of, [FAR, {"next": RISING}, "far", ("row", ZERO, ONE)]),
+    (facts.judge_tree, [FAR, {"next": RISING}, TREE]), (facts.judge_tree, [FAR, {"next": RISING}, ["far", [{"a": 1}]]]), (facts.judge_closed, [FAR, {"next": RISING}, {"next": RISING}]),
+    (facts.judge_closed, [FAR, {"next": RISING}, {}]),
+    (games.ranks, [GAME]), (games.lost, [HIS]), (games.judge_lost, [GAME, LINE]), (games.judge_lost, [HIS, games.lost(HIS)]), (games.downs, [GAME]),
+    (plans.book, [GAME]), (plans.book, [HIS]), (plans.judge_book, [GAME, ("book", GAME[2])]), (plans.judge_book, [GAME, ["book", [GAME[2]]]]), (plans.judge_book, [GAME, ("bar", "p", [0])]),
+    (plans.ranks_with, [GAME, (ZERO, ONE)]), (plans.plan_with, [GAME, (ZERO, ONE)]), (plans.play, [GAME, GAME[2], "p", []]), (plans.play, [HIS, making.EMPTY, "p", [("row", "q", ZERO), ["w", [1]]]]),
+    (plans.play, [HIS, making.EMPTY, "p", [("row", "q", ZERO), ("row", "w", ONE)]]), (plans.play, [GAME, GAME[2], [[{"a": [1]}]], []]),
+    (deeds.behind, [{"far": ABOVE, "w": "a"}, RUN]), (deeds.behind, [{"far": ABOVE}, ("drop", ["far", ["w"]])]), (deeds.behind, [{"far": ABOVE}, ["drop", "far"]]), (deeds.behind, [{}, ("name", [["a"]], [])]),
+    (deeds.behind, [{"far": ABOVE}, ("run", (), [], ())]), (deeds.behind, [{"far": ABOVE}, ("add", "far", {"a": [1]})]), (deeds.behind, [{"far": ABOVE}, ("move", MOVE)]), (deeds.behind, [{}, ("move", [[1]])]),
+    (deeds.reads, [RUN]), (deeds.writes, [RUN]), (deeds.differences, [{"a": LINE, "b": "x"}, {"a": ABOVE}]), (deeds.deed_text, [RUN]), (deeds.read_deed, ["move 0 1"]), (deeds.read_deed, [["drop", {"a": [1]}]]),
+    (in_house, ["do", ("drop", "far")]), (in_house, ["do", [RUN]]), (in_house, ["undo"]), (in_house, ["redo"]), (in_house, ["branch", ["a", ["b"]]]), (in_house, ["go", "side"]), (in_house, ["go", ["a", {"b": []}]]),
+    (in_house, ["state"]), (in_house, ["state_at", 1]), (in_house, ["state_at", [1, [1]]]), (in_house, ["here"]), (in_house, ["branches"]), (in_house, ["script", "main"]), (in_house, ["script", [["a"]]]), (in_house, ["place", "side"]),
+    (in_house, ["edit", 0, ("name", "far", LINE)]), (in_house, ["edit", [0], None]), (in_house, ["insert", 1, ("name", "z", LINE)]), (in_house, ["insert", {"a": []}, None]), (in_house, ["remove", 1]), (in_house, ["remove", [[0]]]),
+    (in_house, ["hangs_on", "low"]), (in_house, ["hangs_on", [["a"]]]), (in_house, ["may_swap", 0]), (in_house, ["may_swap", [[0]]]), (in_house, ["merge", "side"]), (in_house, ["merge", [["a"]]]),
+    (in_house, ["would_change", [("drop", "far"), ("name", "low", "b")]]), (in_house, ["would_change", [["drop", [["a"]]]]]), (in_house, ["tried", [("drop", "far"), ("name", "far", LINE)]]), (in_house, ["tried", [("drop", "w"), ("drop", ["w"])]]),
+    (in_house, ["trace", (ZERO, ONE)]), (in_house, ["trace", [[0, 1], {"a": [1]}]]), (in_console, ["name a b"]), (in_console, [["name a b", {"a": [1]}]])]
 
 
 def lists_in(thing):
@@ -139,7 +174,9 @@ class Arguments(unittest.TestCase):
                  trees.is_kind: bool, trees.is_of: bool, algebra.is_within: bool, placing.are_alike: bool, points.is_before: bool, values.value_text: str, plainrun.is_plain: bool, plainrun.plain_run: dict, samples.members_on: list,
                  samples.count: int, programtexts.program_text: str, greater.as_great: tuple, greater.into: tuple, greater.into_map: tuple, greater.order: int, rounds.lengths: list, rounds.levels: list,
                  rounds.come_round: tuple, rounds.track: tuple, bars.bars: list, bars.intervals: tuple, picks.plenty: tuple, picks.pick: tuple, webs.path: tuple, webs.farthest: int, rings.ring: tuple, rings.heights: tuple, rings.odd_ring: tuple, machines.run_word: tuple, machines.takes: bool,
-                 machines.other_machine: tuple, machines.turned_machine: tuple, machines.moved_machine: tuple, words.alike_machines: tuple, words.both_machines: tuple, least.least_machine: tuple}
+                 machines.other_machine: tuple, machines.turned_machine: tuple, machines.moved_machine: tuple, words.alike_machines: tuple, words.both_machines: tuple, least.least_machine: tuple,
+                 facts.least_facts: dict, facts.tree_of: tuple, games.ranks: list, plans.book: tuple, plans.ranks_with: list, plans.play: list, deeds.behind: dict, deeds.differences: dict, deeds.reads: list, deeds.writes: list,
+                 deeds.deed_text: str, deeds.read_deed: tuple, in_console: str}
         for function, parts in CALLS:
             told = told_by(function, parts)
             if function in kinds and not isinstance(told, Exception):
@@ -157,10 +194,20 @@ class Arguments(unittest.TestCase):
             bars: "intervals fitting bars pickable barred_at", picks: "enough plenty pick judge_pick picked",
             webs: "places reached fewest_steps path closure at_steps farthest judge_path", rooms: "both_ways room_of rooms linked",
             rings: "ring judge_ring heights judge_heights odd_ring judge_odd", machines: "judge_machine run_word takes other_machine turned_machine moved_machine",
-            words: "reached word_to first_word alike_machines judge_alike both_machines either_machine", least: "least_machine lead matched", rules: "check_rules"}
+            words: "reached word_to first_word alike_machines judge_alike both_machines either_machine", least: "least_machine lead matched", rules: "check_rules",
+            facts: "least_facts rank_of tree_of judge_tree judge_closed", games: "ranks lost judge_lost downs", plans: "book judge_book ranks_with plan_with play",
+            deeds: "behind reads writes differences deed_text read_deed", house: "House", console: "Console"}
         for module, names in listed.items():
             for name in names.split():
                 self.assertEqual(getattr(module, name).__module__, module.__name__, name)
+
+    def test_methods_stand_in_their_classes(self):
+        listed = {
+            trees.Program: "inputs functions block kinds __eq__", sizes.Size: "__call__ __add__ __sub__ __neg__ __mul__ __rmul__ __eq__ finer greatest at_most", console.Console: "house say",
+            house.House: "do undo redo branch go state state_at here branches script place twin __eq__ edit insert remove hangs_on may_swap merge would_change tried trace"}
+        for told, names in listed.items():
+            for name in names.split():
+                self.assertIn(name, vars(told), told)
 
 
 if __name__ == "__main__":

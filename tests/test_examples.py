@@ -36,7 +36,7 @@ class Examples(unittest.TestCase):
                     self.check_error(code, names, told[len("raises "):])
                 else:
                     self.assertEqual(repr(eval(code, names)), told)
-        self.assertEqual(done, 164)
+        self.assertEqual(done, 207)
 
     def check_error(self, code, names, told):
         expected = eval(told, dict(vars(errors)))
