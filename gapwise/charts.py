@@ -147,9 +147,9 @@ class Spread:
                         further.append(move.behind)
             level = further
 
-    def word_to(self, place):
+    def word_to(self, key, place):
         """A shortest word to a place that is reached: each move is led to end where the next one begins."""
-        word, key = [], self.chart.key(place)
+        word = []
         while key in self.lasts:
             move = self.lasts[key]
             _, place, letter, _ = led_row(move.row, 3, place, self.chart.points)

@@ -25,28 +25,22 @@ def ring(web):
 def judge_ring(web, value):
     """The first fault of any value as a paper about rings, None if there is none."""
     if is_paper(value, "ring") and are_values(value[1]):
-        ties = [is_tied(web, one, other) for one, other in steps_around(value[1])]
-        return around_fault(value[1], ties)
+        return around_fault(web, value[1])
     if is_paper(value, "none") and is_set_value(value[1]) and all([is_pair(row) for row in value[1][2]]):
         return none_fault(web, value[1])
     return ("form",)
 
 
-def steps_around(values):
-    """The list of pairs of a value and the next one, the first one behind the last one."""
-    return [(values[at], values[(at + 1) % len(values)]) for at in range(len(values))]
-
-
-def around_fault(values, ties):
-    """What keeps values from going round, each once; ties tells for each whether it is tied to the next one."""
+def around_fault(web, values):
+    """What keeps values from going round, each once."""
     known = {}
     for k in range(len(values)):
         text = value_text(values[k])
         if text in known:
             return ("twice", k)
         known[text] = True
-    for k in range(len(ties)):
-        if not ties[k]:
+    for k in range(len(values)):
+        if not is_tied(web, values[k], values[(k + 1) % len(values)]):
             return ("tie", k)
     return None
 
@@ -199,10 +193,7 @@ def parted_walks(one, other):
 def judge_odd(web, value):
     """The first fault of any value as a paper about odd rings, None if there is none."""
     if is_paper(value, "ring") and are_values(value[1]):
-        if len(value[1]) % 2 == 0:
-            return ("even",)
-        joints = [is_tied(web, one, other) or is_tied(web, other, one) for one, other in steps_around(value[1])]
-        return around_fault(value[1], joints)
+        return ("even",) if len(value[1]) % 2 == 0 else around_fault(both_ways(web), value[1])
     if is_paper(value, "sides") and is_set_value(value[1]):
         return sides_fault(web, opened(value[1]))
     return ("form",)

@@ -1,7 +1,7 @@
 """Words of machines, and machines compared and put together by their words."""
 
 from gapwise.charts import Chart, Spread, machine_points, rows_over
-from gapwise.families import least, opened
+from gapwise.families import keyed, least, opened
 from gapwise.machines import takes
 from gapwise.making import is_in
 from gapwise.mixing import ranked
@@ -26,7 +26,8 @@ def reached(machine):
 def word_to(machine, place):
     """A shortest word that leads from the start to a value, None if there is none."""
     spread = spread_of(machine)
-    return spread.word_to(place) if spread.chart.key(place) in spread.steps else None
+    key, _ = keyed(place, spread.chart.points)
+    return spread.word_to(key, place) if key in spread.steps else None
 
 
 def first_word(machine):
@@ -35,7 +36,7 @@ def first_word(machine):
     ends = Inside(opened(machine[4]), spread.chart.points)
     for key in spread.steps:
         if ends.has(key, spread.chart.skeletons[key[0]]):
-            return spread.word_to(spread.chart.value_of(key))
+            return spread.word_to(key, spread.chart.value_of(key))
     return None
 
 
