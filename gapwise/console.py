@@ -24,9 +24,7 @@ class Console:
         """Does what a line, any value, says; the answer is told."""
         try:
             return answer_to(self._house, line)
-        except LineError as e:
-            return "no " + e.called
-        except NotThere as e:
+        except (LineError, NotThere) as e:
             return "no " + e.called
 
 

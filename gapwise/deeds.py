@@ -180,10 +180,8 @@ def read_safely(reader, text):
     """What a reader makes of a text; BadLine if it raises an error of the package's."""
     try:
         return reader(text)
-    except LineError:
-        raise BadLine()
-    except NotThere:
-        raise BadLine()
+    except (LineError, NotThere):
+        raise BadLine() from None
 
 
 def read_move(text):

@@ -181,9 +181,7 @@ class House:
         try:
             between = behind(states[number], script[number + 1])
             return behind(between, script[number]) == states[number + 2]
-        except LineError:
-            return False
-        except NotThere:
+        except (LineError, NotThere):
             return False
 
     def merge(self, name):

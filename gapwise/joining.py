@@ -116,13 +116,19 @@ class Plan:
         bound = kept(ready, waiting, [columns[at] for at in left], columns[start])
         self.keeps = numbers_in(bound, columns[start])
         while left:
-            _, at = max([(len([one for one in columns[at] if one in bound]), at) for at in left])
-            left = [one for one in left if one != at]
+            at = most_shared(left, columns, bound)
+            left = [number for number in left if number != at]
             stage = Stage(at, bound, columns[at])
             stage.tests, waiting = due_tests(waiting, stage.columns)
-            bound = kept(ready, waiting, [columns[one] for one in left], stage.columns)
+            bound = kept(ready, waiting, [columns[number] for number in left], stage.columns)
             stage.keeps = numbers_in(bound, stage.columns)
             self.stages.append(stage)
+
+
+def most_shared(left, columns, bound):
+    """The atom, of those left, of which the most variables are among the bound ones."""
+    _, atom = max([(len([variable for variable in columns[at] if variable in bound]), at) for at in left])
+    return atom
 
 
 def numbers_in(variables, columns):

@@ -245,7 +245,49 @@ class Statements(unittest.TestCase):
                     self.assertIsInstance(node.exc, ast.Call, (name, node.lineno))
                     self.assertRegex(node.exc.func.id, "^[A-Z]", (name, node.lineno))
                 if isinstance(node, ast.ExceptHandler):
-                    self.assertIsInstance(node.type, ast.Name, (name, node.lineno))
+                    parts = node.type.elts if isinstance(node.type, ast.Tuple) else [node.type]
+                    for part in parts:
+                        self.assertIsInstance(part, ast.Name, (name, node.lineno))
+
+    def test_stars_in_calls(self):
+        for name, tree in trees().items():
+            for node in ast.walk(tree):
+                if isinstance(node, ast.Call):
+                    for part in node.args:
+                        if isinstance(part, ast.Starred):
+                            self.assertIsInstance(part.value, (ast.Name, ast.Attribute), (name, node.lineno))
+                    for word in node.keywords:
+                        self.assertIsNotNone(word.arg, (name, node.lineno))
+
+    def test_sets_are_measured_or_sorted_at_once(self):
+        for name, tree in trees().items():
+            parents = {child: node for node in ast.walk(tree) for child in ast.iter_child_nodes(node)}
+            for node in ast.walk(tree):
+                if isinstance(node, ast.SetComp):
+                    parent = parents[node]
+                    self.assertTrue(isinstance(parent, ast.Call) and parent.func.id in ("sorted", "len"), (name, node.lineno))
+
+    def test_what_a_loop_goes_over_is_not_changed_in_it(self):
+        changing = {"append", "extend", "pop", "setdefault", "insert", "remove", "clear", "update", "reverse"}
+        for name, tree in trees().items():
+            for node in ast.walk(tree):
+                if not isinstance(node, ast.For):
+                    continue
+                over = {ast.unparse(part) for part in ast.walk(node.iter) if isinstance(part, (ast.Name, ast.Attribute))}
+                for part in ast.walk(ast.Module(node.body, [])):
+                    changed = None
+                    if isinstance(part, ast.Call) and isinstance(part.func, ast.Attribute) and part.func.attr in changing:
+                        changed = part.func.value
+                    elif isinstance(part, ast.Subscript) and not isinstance(part.ctx, ast.Load):
+                        changed = part.value
+                    self.assertFalse(changed is not None and ast.unparse(changed) in over, (name, node.lineno))
+
+    def test_no_method_is_read_off_a_class(self):
+        names = {one for tree in trees().values() for one in module_names(tree)[1]}
+        for name, tree in trees().items():
+            for node in ast.walk(tree):
+                if isinstance(node, ast.Attribute) and isinstance(node.value, ast.Name):
+                    self.assertNotIn(node.value.id, names, (name, node.lineno))
 
     def test_the_whole_package_has_at_most_100_files(self):
         self.assertLessEqual(len(files()), 100)
