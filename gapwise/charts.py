@@ -126,14 +126,14 @@ class Letters:
 class Spread:
     """How words lead from the start of a machine to the orbits of its places over the chart's points.
 
-    steps has the fewest letters to each orbit that is reached, the nearest ones first, lasts the last move there.
+    lasts has for each orbit that is reached, the nearest ones first, the last move of a shortest word there, None for
+    the start's.
     """
 
     def __init__(self, chart, start):
         self.chart = chart
         key = chart.key(start)
-        self.steps = {key: 0}
-        self.lasts = {}
+        self.lasts = {key: None}
         level = [key]
         while level:
             further = []
@@ -141,8 +141,7 @@ class Spread:
                 moves = chart.onward.get(one, {})
                 for near in moves:
                     move = moves[near]
-                    if move.behind not in self.steps:
-                        self.steps[move.behind] = self.steps[one] + 1
+                    if move.behind not in self.lasts:
                         self.lasts[move.behind] = move
                         further.append(move.behind)
             level = further
@@ -150,7 +149,7 @@ class Spread:
     def word_to(self, key, place):
         """A shortest word to a place that is reached: each move is led to end where the next one begins."""
         word = []
-        while key in self.lasts:
+        while self.lasts[key] is not None:
             move = self.lasts[key]
             _, place, letter, _ = led_row(move.row, 3, place, self.chart.points)
             word.append(letter)

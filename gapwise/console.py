@@ -35,11 +35,11 @@ def answer_to(house, line):
     if line in BARE:
         action = BARE[line]
         return action(house)
-    word, blank, rest = line.partition(" ")
+    word, _, rest = line.partition(" ")
     if word in PARTS:
         house.do(read_deed(line))
         return place_text(house)
-    if word not in ACTIONS or not blank:
+    if word not in ACTIONS:
         raise BadLine()
     action = ACTIONS[word]
     return action(house, rest)

@@ -139,7 +139,7 @@ def differences(one, other):
     found = {}
     for name in sorted([*one, *[word for word in other if word not in one]]):
         before, after = one.get(name), other.get(name)
-        if before is not None and after is not None and is_set(before) and is_set(after):
+        if is_set(before) and is_set(after):
             if before != after:
                 found[name] = ("sets", less(before, after), less(after, before))
         elif before != after:
@@ -165,7 +165,7 @@ def read_deed(text):
     word, blank, rest = text.partition(" ")
     if word == "move":
         return ("move", read_move(rest if blank else None))
-    if word not in PARTS or not blank:
+    if word not in PARTS:
         raise BadLine()
     if word == "run":
         program = read_safely(read_program, rest)

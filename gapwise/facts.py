@@ -184,7 +184,7 @@ def does_make(rule, named, made_fact):
     env = {}
     for at in range(len(body)):
         name, row = named[at]
-        if not is_word(name) or name != body[at][0] or not is_fact_row(row) or not fits(body[at][1], row, env):
+        if name != body[at][0] or not is_fact_row(row) or not fits(body[at][1], row, env):
             return False
     for word, s, t in tests:
         if not holds(word, worth(s, env), worth(t, env)):

@@ -11,7 +11,6 @@ from gapwise.values import is_set, is_word
 
 MOST_BRANCHES = 6
 MOST_DEEDS = 60
-MOST_NAMES = 8
 
 
 class House:
@@ -196,8 +195,6 @@ class House:
             return place
         merged = merged_state(states[common], states[place], self._states[name][many])
         deeds = deeds_between(states[place], merged)
-        if len(merged) > MOST_NAMES or place + len(deeds) > MOST_DEEDS:
-            raise TooMany()
         if deeds:
             script, states = self.after(deeds)
             return self.keep(script, states, len(script))
@@ -273,7 +270,7 @@ def merged_state(common, mine, other):
 
 def are_sets(w, h, t):
     """Whether the last two of three values, None for none, are sets, and the first one, if there is one."""
-    return h is not None and t is not None and is_set(h) and is_set(t) and (w is None or is_set(w))
+    return is_set(h) and is_set(t) and (w is None or is_set(w))
 
 
 def mixed_set(w, h, t):

@@ -18,7 +18,10 @@ class Constant:
 
 
 class Ready:
-    """A rule whose terms are variables and Constants; it never matches if tests tell so of values alone."""
+    """A rule whose terms are variables and Constants; head has the head's terms.
+
+    It never matches if tests for equal values tell so of values alone.
+    """
 
     def __init__(self, rule, points):
         head, body, tests = rule
@@ -28,7 +31,7 @@ class Ready:
         for word, s, t in terms:
             if word == "same":
                 self.unify(self.settled(s), self.settled(t))
-        self.head = (head[0], self.terms_of(head[1], points))
+        self.head = self.terms_of(head[1], points)
         self.body = [(name, self.terms_of(terms, points)) for name, terms in body]
         self.tests = []
         for word, s, t in terms:
@@ -151,8 +154,8 @@ def due_tests(tests, columns):
 def kept(ready, tests, others, columns):
     """Which of some variables are still asked for, by the head, by tests or by other atoms; at last the head's own."""
     if not others:
-        return variables_of(ready.head[1])
-    wanted = variables_of([*ready.head[1], *[term for _, s, t in tests for term in (s, t)]])
+        return variables_of(ready.head)
+    wanted = variables_of([*ready.head, *[term for _, s, t in tests for term in (s, t)]])
     return [one for one in columns if one in wanted or any([one in other for other in others])]
 
 
@@ -160,7 +163,7 @@ def kept_columns(ready):
     """For each atom the list of its variables that stand elsewhere, too."""
     found = []
     for at in range(len(ready.body)):
-        terms = [*ready.head[1], *[term for _, s, t in ready.tests for term in (s, t)]]
+        terms = [*ready.head, *[term for _, s, t in ready.tests for term in (s, t)]]
         for other in range(len(ready.body)):
             if other != at:
                 terms.extend(ready.body[other][1])
@@ -181,8 +184,8 @@ def holds_test(test, line):
         return one != other or spots != more_spots or ranks != more_ranks and None not in (ranks, more_ranks)
     if one != "0" or other != "0":
         return False
-    # Points with codes of one gap are told apart by their ranks alone.
-    return spots < more_spots or spots == more_spots and None not in (ranks, more_ranks) and ranks < more_ranks
+    # Points with codes of one gap are told apart by their ranks alone; a Constant has a code of its own.
+    return spots < more_spots if None in (ranks, more_ranks) else ranks < more_ranks
 
 
 def side_of(side, line):

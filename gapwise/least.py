@@ -24,7 +24,7 @@ class Classes:
     def __init__(self, machine):
         self.points = machine_points(machine)
         self.chart = Chart(machine, self.points)
-        self.orbit_keys = list(Spread(self.chart, machine[2]).steps)
+        self.orbit_keys = list(Spread(self.chart, machine[2]).lasts)
         family = Family(self.points, {key: self.chart.skeletons[key[0]] for key in self.orbit_keys})
         check_many(paired_count(family, family), MOST)
         pairing = Pairing(self.chart, self.chart, machine[0])

@@ -142,7 +142,7 @@ class Matcher:
         if line not in known:
             texts, codes, ranks = line
             held = places_at(codes, self.points)
-            terms = self.readies[number].head[1]
+            terms = self.readies[number].head
             variables = list({term: True for term in terms if isinstance(term, str)})
             env = {}
             for at in range(len(variables)):
@@ -170,7 +170,7 @@ class Matcher:
             rows.extend(self.led([more], [olds[one] for one in stage.right], [news[one] for one in stage.right]))
             ats.append(trace.atom)
             env = news
-        rows = self.led(rows, [row_of(self.readies[number].head[1], env)], [row])
+        rows = self.led(rows, [row_of(self.readies[number].head, env)], [row])
         found = {ats[at]: rows[at] for at in range(len(ats))}
         return [found[at] for at in range(len(ats))]
 

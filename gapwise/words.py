@@ -19,7 +19,7 @@ def spread_of(machine):
 def reached(machine):
     """The set of all places to which some word leads."""
     spread = spread_of(machine)
-    table = {key: spread.chart.skeletons[key[0]] for key in spread.steps}
+    table = {key: spread.chart.skeletons[key[0]] for key in spread.lasts}
     return least(spread.chart.points, table).plain()
 
 
@@ -27,14 +27,14 @@ def word_to(machine, place):
     """A shortest word that leads from the start to a value, None if there is none."""
     spread = spread_of(machine)
     key, _ = keyed(place, spread.chart.points)
-    return spread.word_to(key, place) if key in spread.steps else None
+    return spread.word_to(key, place) if key in spread.lasts else None
 
 
 def first_word(machine):
     """A shortest word that the machine takes, None if it takes none."""
     spread = spread_of(machine)
     ends = Inside(opened(machine[4]), spread.chart.points)
-    for key in spread.steps:
+    for key in spread.lasts:
         if ends.has(key, spread.chart.skeletons[key[0]]):
             return spread.word_to(key, spread.chart.value_of(key))
     return None

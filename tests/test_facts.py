@@ -85,6 +85,18 @@ class LeastFacts(unittest.TestCase):
         self.assertEqual(only_fact((rule(("q", "x"), [("p", ("value", made((ONE,), [TWO])), "x")]),), sets, "q"), made((), [("row", "a")]))
         self.assertEqual(only_fact((rule(("q", "x"), [("p", ("value", made((ONE,), [ZERO])), "x")]),), sets, "q"), EMPTY)
 
+    def test_points_of_all_parts_of_rules(self):
+        # The points of a value in a head, in a body or in a test part the facts.
+        above = made((ONE,), [("row", TWO)])
+        self.assertEqual(only_fact((rule(("q", "y"), [("next", ("value", ONE), "y")]),), {"next": RISING}, "q"), above)
+        self.assertEqual(only_fact((rule(("q", "y"), [("next", "x", "y")], ("same", ("value", ONE), "x")),), {"next": RISING}, "q"), above)
+        self.assertEqual(only_fact((rule(("q", "y"), [("next", "x", "y")], ("same", "x", ("value", ONE))),), {"next": RISING}, "q"), above)
+        self.assertEqual(only_fact((rule(("q", ("value", ONE), "y"), [("next", "x", "y")]),), {"next": RISING}, "q"), made((ONE,), [("row", ONE, point) for point in (ZERO, ONE, TWO)]))
+        self.assertEqual(only_fact((rule(("q", "y"), [("next", "z", "z"), ("next", "x", "y")]),), {"next": RISING}, "q"), EMPTY)
+        line = {"next": made((), [("row", word, ZERO) for word in WORDS[:201]])}
+        for one in (rule(("q", "x"), [("next", "x", ("value", ONE))]), rule(("q", ("value", ONE)), [("next", "x", "y")]), rule(("q", "x"), [("next", "x", "y")], ("unlike", ("value", ONE), "x")), rule(("q", "x"), [("next", "x", "y")], ("unlike", "x", ("value", ONE)))):
+            self.assertRaises(TooMany, least_facts, (one,), line)
+
     def test_rows_of_several_sizes(self):
         sets = {"p": made((), [("row", "a"), ("row", "a", "b"), ("row", "a", "b", "c"), ("row", "a", "a")])}
         self.assertEqual(only_fact((rule(("q", "x"), [("p", "x", "y")]),), sets, "q"), made((), [("row", "a")]))
@@ -278,7 +290,20 @@ class JudgeTree(unittest.TestCase):
 
         def judged(x, y):
             return judge_tree(rules, given, ("q", ("row", x, y), 0, (("p", ("row", x), None, ()), ("p", ("row", y), None, ()))))
-        self.assertEqual([judged(ZERO, ONE), judged(ONE, TWO), judged(TWO, ONE), judged(ZERO, ZERO), judged("a", ONE), judged("b", ONE)], [None, (), (), (), (), ()])
+        self.assertEqual([judged(ZERO, ONE), judged(ONE, TWO), judged(TWO, ONE), judged(ZERO, ZERO), judged("a", ONE), judged("b", ONE), judged(ZERO, "a"), judged(ZERO, "b")], [None] + [()] * 7)
+
+    def test_sizes_of_rows_and_values_of_rules(self):
+        rules = (rule(("q", "x"), [("p", "x", ("value", "a"))]), rule(("q", "x"), [("p", "x", "x")]))
+        given = {"p": made((), [("row", ZERO, "a"), ("row", ZERO, "b"), ("row", "b", "b"), ("row", "b"), ("row", "b", "a", "a"), ("row", "ab", "a")])}
+
+        def judged(number, row, *parts):
+            return judge_tree(rules, given, ("q", row, number, (("p", ("row", *parts), None, ()),)))
+        self.assertEqual([judged(0, ("row", ONE), ONE, "a"), judged(0, ("row", ONE), ONE, "b"), judged(0, ("row", "b"), "b"), judged(0, ("row", "b"), "b", "a", "a"), judged(0, ("row", ONE, ONE), ONE, "a"), judged(0, ("row", TWO), ONE, "a")], [None] + [()] * 5)
+        self.assertEqual([judged(1, ("row", "b"), "b", "b"), judged(1, ("row", ONE), ONE, "a"), judged(1, ("row", "a"), ONE, "a")], [None, (), ()])
+        # A word is no row, also where its letters would fit.
+        for row in ("ba", ("p", "b", "a"), ("set", "b", "a")):
+            self.assertEqual(judge_tree(rules, given, ("q", ("row", "b"), 0, (("p", row, None, ()),))), (), row)
+            self.assertEqual(judge_tree((rule(("q", "x"), [("p", "x")]),), given, ("q", ("row", "a"), 0, (("p", "ba", None, ()),))), ())
 
     def test_bent_trees(self):
         chance, seen = seeded(235), {}

@@ -39,6 +39,15 @@ def picture(house):
     return [house.here(), house.branches(), [(house.script(name), house.place(name)) for name in house.branches()], house.state(), [house.state_at(number) for number in range(len(house.script(house.here())) + 1)]]
 
 
+def house_with_side():
+    """A house in a branch that was made with a deed undone."""
+    house = house_of(NAME, OTHER)
+    house.undo()
+    house.branch("side")
+    house.go("side")
+    return house
+
+
 class Deeds(unittest.TestCase):
     def test_a_new_house(self):
         self.assertEqual(picture(House()), ["main", ["main"], [([], 0)], {}, [{}]])
@@ -105,6 +114,8 @@ class Branches(unittest.TestCase):
         self.assertEqual([house.do(ADD), house.go("side"), house.state(), house.do(LOW), house.go("main")], [2, 1, {"far": ABOVE}, 2, 2])
         self.assertEqual([house.script("main"), house.script("side")], [[NAME, ADD], [NAME, LOW]])
         self.assertEqual(house.go("main"), 2)
+        for number in (2, 3):
+            self.assertEqual(told(house_with_side().state_at, number), (NoDeed, {"number": number}))
 
     def test_names(self):
         house = house_of(NAME)

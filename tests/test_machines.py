@@ -44,7 +44,7 @@ class JudgeMachine(unittest.TestCase):
         self.assertEqual([word, is_in(p, RISES[4]), is_in(p, made((ZERO,), [ONE, "none"]))], ["ends", True, False])
 
     def test_moves(self):
-        for row in ("a", ZERO, ("row", "none", ZERO), ("row", "none", ZERO, ZERO, ZERO), ("row", "up", ZERO, ZERO), ("row", ZERO, "a", ZERO), ("row", ZERO, ONE, "up"), LINE):
+        for row in ("a", "abcd", ZERO, ("row", "none", ZERO), ("row", "none", ZERO, ZERO, ZERO), ("row", "up", ZERO, ZERO), ("row", ZERO, "a", ZERO), ("row", ZERO, ONE, "up"), LINE):
             word, m = judge_machine(bent(RISES, moves=join(RISES[3], made((), [row]))))
             self.assertEqual([word, is_in(m, made((), [row]))], ["moves", True])
         # A letter that is none lies beside ones that are.
