@@ -195,6 +195,8 @@ class Differences(unittest.TestCase):
         self.assertEqual([differences(STATE, STATE), differences({}, {})], [{}, {}])
         self.assertEqual(differences({"a": LINE}, {"a": ZERO}), {"a": ("values", LINE, ZERO)})
         self.assertEqual(differences({"a": LINE}, {}), {"a": ("values", LINE, None)})
+        self.assertEqual(differences({"a": ZERO}, {"a": LINE}), {"a": ("values", ZERO, LINE)})
+        self.assertEqual(differences({}, {"a": LINE}), {"a": ("values", None, LINE)})
         self.assertEqual(differences({"a": EMPTY}, {"a": LINE}), {"a": ("sets", EMPTY, LINE)})
         self.assertEqual(differences({"a": LINE}, {"a": only(ONE)}), {"a": ("sets", less(LINE, only(ONE)), EMPTY)})
 

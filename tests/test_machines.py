@@ -47,6 +47,8 @@ class JudgeMachine(unittest.TestCase):
         for row in ("a", "abcd", ZERO, ("row", "none", ZERO), ("row", "none", ZERO, ZERO, ZERO), ("row", "up", ZERO, ZERO), ("row", ZERO, "a", ZERO), ("row", ZERO, ONE, "up"), LINE):
             word, m = judge_machine(bent(RISES, moves=join(RISES[3], made((), [row]))))
             self.assertEqual([word, is_in(m, made((), [row]))], ["moves", True])
+        # A word is no row, also where its letters would be a place, a letter and a place.
+        self.assertEqual(judge_machine(bent(EVEN, moves=join(EVEN[3], made((), ["xeao"])))), ("moves", "xeao"))
         # A letter that is none lies beside ones that are.
         word, m = judge_machine(bent(RISES, letters=made((ZERO,), [ONE])))
         self.assertTrue(word == "moves" and is_in(m, RISES[3]) and not is_in(m[2], made((ZERO,), [ONE])))
