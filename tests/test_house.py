@@ -394,7 +394,9 @@ class Merging(unittest.TestCase):
             sides = [[(chance.choice(["add", "cut"]), "a", chance.choice(HALVES)) for _ in range(chance.choice([1, 2, 3]))] for _ in range(2)]
             house, place = self.merged(ahead, *sides)
             self.assertIsInstance(place, int)
-            w, h, t = (state_behind(deeds)["a"] for deeds in (ahead, ahead + sides[0], ahead + sides[1]))
+            row = [one == other for one, other in zip(*sides)]
+            shared = sides[0][:row.index(False) if False in row else len(row)]
+            w, h, t = (state_behind(deeds)["a"] for deeds in (ahead + shared, ahead + sides[0], ahead + sides[1]))
             for point in [*HALVES, (1, 3), (99, 1)]:
                 was, mine, his = (is_in(point, many) for many in (w, h, t))
                 self.assertEqual(is_in(point, house.state()["a"]), his if mine == was else mine)
@@ -450,7 +452,7 @@ class ByChance(unittest.TestCase):
                 seen[key] = seen.get(key, 0) + 1
         for word in ("do", "undo", "redo", "branch", "go", "edit", "insert", "remove", "merge", "may_swap", "tried", "would_change"):
             self.assertIn((word, "told"), seen)
-        self.assertIn(("merge", "Clash"), seen)
+        self.assertGreater(seen[("merge", "told")], 20)
 
     def some_call(self, chance, house):
         number = chance.choice([0, 1, 2, 3, 4, 5, 6, 8, -1, True])

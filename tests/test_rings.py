@@ -176,11 +176,11 @@ class JudgeRing(unittest.TestCase):
             many = closure(web)
             x, y = some_values(chance, web, 2)
             other = made(merged_points(many[1], support(chance.choice([x, y, "a"]))), [("row", x, y)])
-            many = chance.choice([join, less, less, both])(many, other) if chance.random() < 0.8 else many
-            if chance.random() < 0.2:
-                many = join(many, back(many))
-            told = judge_ring(web, ("none", many))
             try:
+                many = chance.choice([join, less, less, both])(many, other) if chance.random() < 0.8 else many
+                if chance.random() < 0.2:
+                    many = join(many, back(many))
+                told = judge_ring(web, ("none", many))
                 beyond = less(then(many, many), many)
             except TooMany:
                 continue

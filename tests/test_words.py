@@ -193,13 +193,14 @@ class JudgeAlike(unittest.TestCase):
             rows = [row for level in levels for row in level]
             many = made(points, rows)
             beside = orbits(chance.choice([pairs(one[1], other[1]), many]), points)
-            draw = chance.random()
-            if draw < 0.3:
-                many = join(many, made(points, [chance.choice(beside)]))
-            elif draw < 0.6:
-                many = less(many, made(points, [chance.choice(beside)]))
-            elif draw < 0.75:
-                many = chance.choice([join, less])(many, only(chance.choice(beside)))
+            draw, other_rows = chance.random(), made(points, [chance.choice(beside)])
+            if 0.6 <= draw < 0.75:
+                other_rows = only(chance.choice(beside))
+            try:
+                if draw < 0.75:
+                    many = (join if draw < 0.3 else less if draw < 0.6 else chance.choice([join, less]))(many, other_rows)
+            except TooMany:
+                continue
             told = judge_alike(one, other, ("alike", many))
             self.check_told(plains, one, other, many, told)
             seen[told and told[0]] = seen.get(told and told[0], 0) + 1
