@@ -11,10 +11,9 @@ class Constant:
     """A value in a rule: its text, placed over no points, and its codes over points among which its own are."""
 
     def __init__(self, value, points):
-        key, skeleton = keyed(value, points)
+        key, _ = keyed(value, points)
         self.value = value
         self.text, self.spots = key
-        self.skeleton = skeleton
 
 
 class Ready:
@@ -27,14 +26,14 @@ class Ready:
         head, body, tests = rule
         self.called = {}
         self.never = False
-        terms = [(word, self.term(s, points), self.term(t, points)) for word, s, t in tests]
-        for word, s, t in terms:
+        asked = [(word, self.term(s, points), self.term(t, points)) for word, s, t in tests]
+        for word, s, t in asked:
             if word == "same":
                 self.unify(self.settled(s), self.settled(t))
         self.head = self.terms_of(head[1], points)
         self.body = [(name, self.terms_of(terms, points)) for name, terms in body]
         self.tests = []
-        for word, s, t in terms:
+        for word, s, t in asked:
             if word != "same":
                 self.tests.append((word, self.settled(s), self.settled(t)))
 
