@@ -47,9 +47,9 @@ class Move:
 class Chart:
     """The moves of a machine over points, among which those of all its parts are.
 
-    onward has for the key of each place a dict to the moves from it. Their letters are told there by their texts and
-    their codes over points and the place's. doubtful has the rows of two moves that lead from one place by one letter,
-    or of one whose end is not told by the place, the letter and the points.
+    onward has for the key of each place from which moves lead a dict to these. Their letters are told there by their
+    texts and their codes over points and the place's. doubtful has the rows of two moves that lead from one place by
+    one letter, or of one whose end is not told by the place, the letter and the points.
     """
 
     def __init__(self, machine, points):
@@ -78,6 +78,10 @@ class Chart:
     def value_of(self, key):
         """The place or letter that stands for an orbit."""
         return built(self.skeletons[key[0]], key[1], self.points)
+
+    def moves_from(self, key):
+        """The dict to the moves from a place, by their letters; in a machine without letters none lead on."""
+        return self.onward.get(key, {})
 
     def put(self, row):
         start, p_held = self.told(row[1])
@@ -138,7 +142,7 @@ class Spread:
         while level:
             further = []
             for one in level:
-                moves = chart.onward.get(one, {})
+                moves = chart.moves_from(one)
                 for near in moves:
                     move = moves[near]
                     if move.behind not in self.lasts:

@@ -60,7 +60,7 @@ def lacking_move(chart, places, letters):
         held = places_at(key[1], points)
         if held not in known:
             known[held] = near.beside(held)
-        moves = chart.onward.get(key, {})
+        moves = chart.moves_from(key)
         for letter in known[held]:
             if letter not in moves:
                 return led_to(table[key], held), near.at(letter, held)

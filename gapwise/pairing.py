@@ -115,7 +115,7 @@ class Pairing:
         """The list of the letters beside a pair, told by their texts and codes, the pairs behind, and the Steps."""
         lay = self.lay(pair[2])
         p_key, q_key = self.two_keys(pair)
-        p_moves, q_moves = self.one.onward[p_key], self.other.onward[q_key]
+        p_moves, q_moves = self.one.moves_from(p_key), self.other.moves_from(q_key)
         found = []
         for codes in self.letters.groups:
             for held, finer, left, right in lay.letters_at(codes):
